@@ -1,0 +1,1 @@
+"""Noroadback: turners of words, and webs led into themselves on which no road turns back."""

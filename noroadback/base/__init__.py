@@ -1,0 +1,1 @@
+"""Integers, fractions, words and rings."""

@@ -1,0 +1,112 @@
+"""Rows of integers in which an integer and its opposite side by side strike each other out.
+
+Words are such rows. Nothing is checked here, and rows can have any length.
+"""
+
+
+def reduced(row):
+    """What is left when opposites side by side are struck out, again and again."""
+    kept = []
+    for entry in row:
+        if kept and kept[-1] == -entry:
+            kept.pop()
+        else:
+            kept.append(entry)
+    return tuple(kept)
+
+
+def is_reduced(row):
+    """Whether no entry stands beside its opposite."""
+    return all([row[place - 1] != -row[place] for place in range(1, len(row))])
+
+
+def joined(rows):
+    """Some rows, one behind the other, reduced."""
+    return reduced([entry for row in rows for entry in row])
+
+
+def opposite(row):
+    """The entries in the other sequence, each one opposite."""
+    return tuple([-entry for entry in row[::-1]])
+
+
+def split_core(row):
+    """The pair (head, core) of a reduced row: head, core and the opposite of head make it."""
+    size = len(row)
+    depth = 0
+    while 2 * depth + 1 < size and row[depth] == -row[size - 1 - depth]:
+        depth += 1
+    return row[:depth], row[depth:size - depth]
+
+
+def repeated(row, many):
+    """The power of a reduced row, for a number of any sign."""
+    if many < 0:
+        return repeated(opposite(row), -many)
+    if many == 0:
+        return ()
+    head, middle = split_core(row)
+    # Copies of the core side by side strike nothing out, so no reducing is needed.
+    return head + middle * many + opposite(head)
+
+
+def is_repeated(row, base, many):
+    """Whether a reduced row is the power of another one, for an exponent of any length."""
+    if base == ():
+        return row == ()
+    # A power has at least as many entries as its exponent tells, so that a power
+    # for a great exponent need not be made.
+    if abs(many) > len(row):
+        return False
+    return repeated(base, many) == row
+
+
+def least_period(row):
+    """The length of the shortest row that makes this one, not (), when it is repeated."""
+    size = len(row)
+    period = 1
+    while row[:period] * (size // period) != row:
+        period += 1
+    return period
+
+
+def root_of(row):
+    """The pair (root, exponent) of a reduced row other than ()."""
+    head, middle = split_core(row)
+    period = least_period(middle)
+    return head + middle[:period] + opposite(head), len(middle) // period
+
+
+def rotated(row, start):
+    """The rotation that begins at a place."""
+    return row[start:] + row[:start]
+
+
+def least_start(row):
+    """A place at which the least rotation begins, 0 for ()."""
+    size = len(row)
+    first = 0
+    second = 1
+    agreed = 0
+    # Two places compete. Where the rotations from both differ, the loser and the
+    # places behind it, as far as both agreed, cannot begin the least rotation.
+    while first < size and second < size and agreed < size:
+        one = row[(first + agreed) % size]
+        other = row[(second + agreed) % size]
+        if one == other:
+            agreed += 1
+            continue
+        if one > other:
+            first = first + agreed + 1
+        else:
+            second = second + agreed + 1
+        if first == second:
+            second += 1
+        agreed = 0
+    return min(first, second)
+
+
+def ring_of(row):
+    """The least rotation of the core of a reduced row."""
+    middle = split_core(row)[1]
+    return rotated(middle, least_start(middle))
