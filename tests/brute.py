@@ -65,3 +65,99 @@ def core_of(word):
     while len(word) > 1 and word[0] + word[-1] == 0:
         word = word[1:-1]
     return word
+
+
+def shrunk(row):
+    """The bare form, entry by entry: for long rows."""
+    kept = []
+    for entry in row:
+        if kept and kept[-1] + entry == 0:
+            del kept[-1]
+        else:
+            kept.append(entry)
+    return tuple(kept)
+
+
+def told(words, way):
+    """What a way tells: the product of the words with these numbers, contraries for numbers below 0."""
+    return shrunk([entry for number in way for entry in (words[number - 1] if number > 0 else back(words[-number - 1]))])
+
+
+def behind(one, other):
+    """The images of the product of two turners."""
+    return tuple(told(one, image) for image in other)
+
+
+def idle(letters):
+    """The images of the idle turner."""
+    return tuple((letter,) for letter in range(1, letters + 1))
+
+
+def move_images(letters, move):
+    """The images of a single move."""
+    images = list(idle(letters))
+    name, letter = move[0], move[1]
+    if name == "turn":
+        images[letter - 1] = (-letter,)
+    if name == "swap":
+        images[letter - 1], images[move[2] - 1] = (move[2],), (letter,)
+    if name == "behind":
+        images[letter - 1] = (letter, move[2])
+    if name == "ahead":
+        images[letter - 1] = (move[2], letter)
+    return tuple(images)
+
+
+def all_moves(letters):
+    """All single moves of so many letters."""
+    numbers = range(1, letters + 1)
+    found = [("turn", one) for one in numbers]
+    found += [("swap", one, other) for one in numbers for other in numbers if one < other]
+    return found + [(name, one, other) for name in ("behind", "ahead") for one in numbers
+                    for other in entries(letters) if abs(other) != one]
+
+
+def first_products(letters, moves):
+    """The images of all products of the first ones of some moves, from none on."""
+    found = [idle(letters)]
+    for move in moves:
+        found.append(behind(found[-1], move_images(letters, move)))
+    return found
+
+
+def length(images):
+    """The sum of the lengths of some images."""
+    return sum(len(image) for image in images)
+
+
+def web(rows):
+    """The ties (start, entry, end) of the loops at the point 0 that read some rows, made one wherever two agree."""
+    ties = set()
+    for number, row in enumerate(rows):
+        points = [0] + [(number, place) for place in range(1, len(row))] + [0]
+        for place, entry in enumerate(row):
+            ties |= {(points[place], entry, points[place + 1]), (points[place + 1], -entry, points[place])}
+    while True:
+        pairs = {}
+        for start, entry, end in sorted(ties, key=repr):
+            pairs.setdefault((start, entry), []).append(end)
+        unlike = [sorted(set(ends), key=lambda point: (point != 0, repr(point))) for ends in pairs.values()]
+        unlike = [ends for ends in unlike if len(ends) > 1]
+        if not unlike:
+            return ties
+        kept, lost = unlike[0][:2]
+        ties = {(kept if start == lost else start, entry, kept if end == lost else end) for start, entry, end in ties}
+
+
+def is_in_lot(ties, word):
+    """Whether a word leads through the ties of a web from the point 0 to itself."""
+    goals = {(start, entry): end for start, entry, end in ties}
+    point = 0
+    for entry in word:
+        point = goals.get((point, entry))
+    return point == 0
+
+
+def rank(ties):
+    """The rank of a web."""
+    return len(ties) // 2 - len({0} | {start for start, _, _ in ties}) + 1

@@ -1,12 +1,16 @@
-"""Promises [0.1] to [0.6], where no test of one function alone tells them."""
+"""Promises [0.1] to [0.7], where no test of one function alone tells them."""
 
 import inspect
 import unittest
 
-from noroadback.base import fractions, rings, words
-from noroadback.errors import InvalidNumber, InvalidWord
+from noroadback.base import fractions, lots, rings, words
+from noroadback.errors import InvalidNumber, InvalidTurner, InvalidWord
+from noroadback.turns import moves, slopes, turners
+from noroadback.turns.slopes import Sum
+from noroadback.turns.turners import Turner
 from wrong import STRANGE
 
+GROW, ONE = Turner(((1, 2), (1,))), Sum.word(2, ())
 PARAMETERS = {
     words.is_word: "letters value", words.bare: "letters row", words.product: "letters *words",
     words.contrary: "letters word", words.power: "letters word many", words.root: "letters word",
@@ -17,18 +21,44 @@ PARAMETERS = {
     rings.core: "letters word", rings.ring: "letters word", rings.is_ring: "letters value",
     rings.turned: "letters word by", rings.are_alike: "letters one other", rings.between: "letters one other",
     rings.is_between: "letters one other value", rings.rings_of: "letters length", rings.ring_number: "letters length",
+    lots.all_paper: "letters words", lots.is_all_paper: "letters words value", lots.do_make_all: "letters words",
+    lots.way_of: "letters words word", lots.is_way: "letters words word value", lots.lot_rank: "letters words",
+    lots.lot_base: "letters words", lots.are_one_lot: "letters one other",
+    turners.table_of: "turner", turners.table_product: "one other", turners.table_determinant: "table",
+    moves.moves_of: "turner", moves.is_moves_of: "turner value", moves.made_by: "letters moves",
+    slopes.slope: "letters word letter", slopes.slope_table: "letters words", slopes.sums_product: "one other",
+    slopes.undone_slopes: "letters words", slopes.is_undone_slopes: "letters words value",
 }
+METHODS = {
+    Turner: {
+        "__init__": "self images", "idle": "letters", "of_move": "letters move", "__call__": "self word",
+        "__mul__": "self other", "undone": "self", "power": "self many", "__eq__": "self other", "__str__": "self",
+    },
+    Sum: {
+        "__init__": "self letters terms", "word": "letters word", "__add__": "self other", "__sub__": "self other",
+        "__mul__": "self other", "total": "self", "led": "self turner", "__eq__": "self other", "__len__": "self",
+        "__bool__": "self", "__iter__": "self",
+    },
+}
+PROPERTIES = {Turner: ("letters", "images", "length"), Sum: ("letters", "terms")}
 RIGHT = {
     "letters": 2, "value": (1, 2), "row": (1, -1, 2), "*words": (2, 2), "word": (1, 2, -1), "many": 3, "one": (1, 2),
-    "other": (2, 1), "length": 3, "top": 4, "bottom": -6, "by": (2,),
+    "other": (2, 1), "length": 3, "top": 4, "bottom": -6, "by": (2,), "words": ((1, 2), (2,)), "turner": GROW,
+    "table": ((1, 2), (3, 4)), "moves": (("turn", 1), ("swap", 1, 2)), "letter": 2,
+}
+OWN = {
+    lots.are_one_lot: (2, ((1,),), ((1, 1),)), turners.table_product: (((1, 2), (3, 4)), ((0, 1), (1, 1))),
+    slopes.sums_product: (((ONE,),), ((ONE,),)),
 }
 JUDGES = [(words.is_word, (2,)), (words.is_common_root, (2, (1,), (1,))), (fractions.is_fraction, ()),
-          (rings.is_ring, (2,)), (rings.is_between, (2, (1,), (1,)))]
+          (rings.is_ring, (2,)), (rings.is_between, (2, (1,), (1,))), (lots.is_all_paper, (2, ((1,), (2,)))),
+          (lots.is_way, (2, ((1,),), (1,))), (moves.is_moves_of, (GROW,)), (slopes.is_undone_slopes, (2, ((1,), (2,))))]
+WRONG_AHEAD = {moves.is_moves_of: (InvalidTurner,)}
 
 
 def right_arguments(call):
     """Arguments that raise nothing, by the names of the parameters."""
-    return [RIGHT[name] for name in PARAMETERS[call].split()]
+    return OWN[call] if call in OWN else [RIGHT[name] for name in PARAMETERS[call].split()]
 
 
 class Interface(unittest.TestCase):
@@ -36,7 +66,26 @@ class Interface(unittest.TestCase):
         for call, told in PARAMETERS.items():
             found = [str(parameter) for parameter in inspect.signature(call).parameters.values()]
             self.assertEqual(found, told.split())
-            self.assertIn(call.__module__, ["noroadback.base.words", "noroadback.base.fractions", "noroadback.base.rings"])
+            home = [module for module in (words, fractions, rings, lots, turners, moves, slopes)
+                    if getattr(module, call.__name__, None) is call]
+            self.assertEqual([module.__name__ for module in home], [call.__module__])
+
+    def test_methods_stand_in_their_classes_with_their_parameters(self):
+        for place, methods in METHODS.items():
+            for name, told in methods.items():
+                self.assertIn(name, vars(place))
+                found = [str(parameter) for parameter in inspect.signature(getattr(place, name)).parameters.values()]
+                self.assertEqual(found, told.split())
+            self.assertEqual(place.__module__, {Turner: turners, Sum: slopes}[place].__name__)
+
+    def test_properties_are_there_from_the_start(self):
+        for place, names in PROPERTIES.items():
+            for name in names:
+                self.assertIn(name, vars(place))
+        for value in (GROW, GROW * GROW, GROW.undone(), GROW.power(20), Turner.idle(2), moves.made_by(2, ())):
+            self.assertEqual((value.letters, value.length), (2, sum(map(len, value.images))))
+        for value in (ONE, ONE + ONE, ONE - ONE, ONE * ONE, ONE.led(GROW), slopes.slope(2, (1,), 1)):
+            self.assertEqual((value.letters, type(value.terms)), (2, dict))
 
     def test_lists_are_generators(self):
         for call in (words.words_of, rings.rings_of):
@@ -58,6 +107,11 @@ class Calls(unittest.TestCase):
             words.bare(2, (1,)), words.product(2), words.contrary(2, (1,)), words.power(2, (1,), 2), words.root(2, (1,)),
             words.common_root(2, (1,), (1,)), words.common_root(2, (1,), (2,)), fractions.fraction(1, 2),
             rings.core(2, (1,)), rings.ring(2, (1,)), rings.turned(2, (1,), (2,)), rings.between(2, (1,), (1,)),
+            lots.all_paper(2, ((1,),)), lots.all_paper(1, ((1,),)), lots.way_of(1, ((1,),), (1, 1)), lots.lot_base(2, ((1,),)),
+            GROW.images, (GROW * GROW).images, GROW((1, 2)), GROW.undone().images, turners.table_of(GROW),
+            turners.table_product(((1,),), ((1,),)), moves.moves_of(GROW), moves.made_by(2, (("behind", 1, 2),)).images,
+            slopes.slope_table(2, ((1,),)), slopes.sums_product(((ONE,),), ((ONE,),)), slopes.undone_slopes(1, ((1,),)),
+            *(ONE + ONE),
         ]
         for one in found:
             self.assertIs(type(one), tuple)
@@ -65,7 +119,8 @@ class Calls(unittest.TestCase):
                 self.assertIn(type(inner), (tuple, int, str))
 
     def test_lists_that_are_passed_are_refused_and_not_changed(self):
-        for call in (words.contrary, words.root, words.bare, rings.core, rings.ring):
+        for call in (words.contrary, words.root, words.bare, rings.core, rings.ring, lots.all_paper, lots.lot_base,
+                     lots.do_make_all, lots.lot_rank, slopes.slope_table, slopes.undone_slopes, Sum.word):
             row = [1, 2, -2]
             with self.assertRaises(InvalidWord):
                 call(2, row)
@@ -96,5 +151,6 @@ class Judges(unittest.TestCase):
             for place in range(len(ahead)):
                 given = list(ahead)
                 given[place] = None
-                with self.assertRaises(InvalidNumber if place == 0 else InvalidWord):
+                errors = WRONG_AHEAD.get(call, (InvalidNumber, InvalidWord, InvalidWord))
+                with self.assertRaises(errors[place]):
                     call(*given, None)

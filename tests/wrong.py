@@ -2,7 +2,9 @@
 
 import unittest
 
-from noroadback.errors import InvalidNumber, InvalidWord
+from noroadback.errors import InvalidNumber, InvalidTurner, InvalidWord
+from noroadback.turns.slopes import Sum
+from noroadback.turns.turners import Turner
 
 
 def nested(depth):
@@ -17,14 +19,29 @@ HUGE = 10 ** 99
 STRANGE = [
     None, True, False, "", "1", "abc", "\t\n", "x" * 4000, [], [1], {}, {1: 1}, {(1,): 2}, ((),), ((1,),), ([1],), (None,),
     (True,), (False,), ("1",), (0,), (HUGE,), (-HUGE,), nested(8), (nested(7), [nested(6)]), [[[[[[[[1]]]]]]]],
-    {"a": {"b": {"c": (1, [2])}}}, InvalidWord("no word"), InvalidNumber(3),
+    {"a": {"b": {"c": (1, [2])}}}, InvalidWord("no word"), InvalidNumber(3), Turner(((1, 2), (1,))), Sum(2, {(1,): 1}),
 ]
-# With two letters.
+# From here on, with two letters.
 WRONG_WORDS = STRANGE + [
     0, 1, HUGE, -HUGE, (1, -1), (-2, 2), (1, 2, -2), (3,), (-3,), (1, 0), (1, True), (1, None), (1, "2"), (1, (2,)),
     (1, [2]), [1, 2], "12", (1,) * 201, (1, 2) * 100 + (1,),
 ]
+WRONG_LOTS = [value for value in STRANGE if value not in (((),), ((1,),))] + [
+    1, (1, 2), [(1,)], [], ((1,), [2]), ((1,), None), ((1,), 2), ((1,), True), ((1,), "2"), ((1,), ((2,),)), ((1, True),),
+    ((1, -1),), ((1,), (2, -2)), ((3,),), ((1,), (0,)), ((1,), (-3,)), ((1,),) * 7, ((),) * 7, ((1,) * 201,),
+    ((2,), (1, 2) * 100 + (1,)), ((HUGE,),), ((10 ** 60,),),
+]
 WRONG_INTEGERS = STRANGE + [(), (1,), (1, 2)]
+WRONG_MOVES = STRANGE + [
+    (), ("turn",), ("turn", 0), ("turn", 3), ("turn", -1), ("turn", True), ("turn", 1, 2), ["turn", 1], ("Turn", 1), ("turn", "1"),
+    ("turn", None), ("turn", HUGE), ("swap", 1), ("swap", 2, 1), ("swap", 1, 1), ("swap", 1, -2), ("swap", 1, 3), ("swap", 0, 1),
+    ("swap", True, 2), ("swap", 1, 2, 1), ("swap", 1, "2"), ("swap", 1, 10 ** 60), ("behind", 1), ("behind", 1, 1),
+    ("behind", 1, -1), ("behind", 2, 2), ("behind", 1, 0), ("behind", 1, 3), ("behind", 1, -3), ("behind", -1, 2),
+    ("behind", 2, True), ("behind", 1, 2, 2), ("behind", 3, 1), ("ahead", 1, 1), ("ahead", 1, -1), ("ahead", 0, 1),
+    ("ahead", 1, (2,)), ("ahead", (1,), 2), ("ahead", 1, None), ["ahead", 1, 2], (1, 2, "ahead"), ("behind", 1, HUGE), "turn",
+    ("idle",), ("idle", 1), ("idle", 1, 2), (("turn", 1),), (None, 1, 2),
+]
+WRONG_TURNERS = [value for value in STRANGE if not isinstance(value, Turner)] + [0, 1, HUGE, ((1, 2), (1,)), (1,), ()]
 
 
 def integers_but(least, most):
@@ -69,7 +86,7 @@ class WrongInputs(unittest.TestCase):
 
     def assert_judges_strange(self, call, ahead, right):
         """Values of every kind are judged without an error, all of them false but the right ones."""
-        for value in STRANGE + [0, 1, -1, HUGE, (1, -1), ("root",), ("unlike",), (1, 2, 3, 4)]:
+        for value in STRANGE + [0, 1, -1, HUGE, (1, -1), ("root",), ("unlike",), ("all",), ("moves",), (1, 2, 3, 4)]:
             if value in right and type(value) is tuple:
                 continue
             with self.subTest(call=call.__name__, value=repr(value)[:80]):
@@ -78,3 +95,6 @@ class WrongInputs(unittest.TestCase):
 
 LETTERS = (InvalidNumber, "given", integers_but(1, 5))
 WORD = (InvalidWord, None, WRONG_WORDS)
+LOT = (InvalidWord, None, WRONG_LOTS)
+WORDS = (InvalidWord, None, WRONG_LOTS + [()])
+TURNER = (InvalidTurner, None, WRONG_TURNERS)

@@ -25,6 +25,39 @@ def joined(rows):
     return reduced([entry for row in rows for entry in row])
 
 
+def times(one, other):
+    """The product of two reduced rows."""
+    most = min(len(one), len(other))
+    struck = 0
+    while struck < most and one[len(one) - 1 - struck] == -other[struck]:
+        struck += 1
+    return one[:len(one) - struck] + other[struck:]
+
+
+def do_agree(one, other, first, last):
+    """Whether two lists have so many entries, and agree in them, told from behind."""
+    if last > min(len(one), len(other)):
+        return False
+    return one[len(one) - last:len(one) - first] == other[len(other) - last:len(other) - first]
+
+
+def common_end(one, other):
+    """How many last entries two lists have in common."""
+    if not do_agree(one, other, 0, 1):
+        return 0
+    known = 0
+    step = 1
+    # Many entries are compared at once: lists that cancel can be very long.
+    while do_agree(one, other, known, known + step):
+        known = known + step
+        step = 2 * step
+    while step > 0:
+        if do_agree(one, other, known, known + step):
+            known = known + step
+        step = step // 2
+    return known
+
+
 def opposite(row):
     """The entries in the other sequence, each one opposite."""
     return tuple([-entry for entry in row[::-1]])

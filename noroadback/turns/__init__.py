@@ -1,0 +1,1 @@
+"""Turners of words, rows of single moves, and sums of words."""

@@ -1,0 +1,48 @@
+"""Images of turners: tuples of words that make all. Nothing is checked here; they can have any length."""
+
+from noroadback.base.shortening import next_step
+from noroadback.base.sides import put_behind, sides_of, single_rows, told_row
+
+
+def length_of(images):
+    """The length of the turner with some images."""
+    return sum([len(image) for image in images])
+
+
+def images_behind(one, other, most):
+    """The images of the product of the turners with some images, None if its length is above the most."""
+    sides = sides_of(one)
+    # Where two words meet without strikes, their images lose at most so many entries each as all images
+    # of letters have. So a beginning that is longer by this than the most cannot become short again.
+    enough = most + length_of(one)
+    images = tuple([told_row(sides, image, enough) for image in other])
+    return images if length_of(images) <= most else None
+
+
+def images_to_power(images, many, most):
+    """The images of a power from 1 on, None if it or one of the lesser ones has a length above the most."""
+    power = images if length_of(images) <= most else None
+    for _ in range(many - 1):
+        if power is not None:
+            power = images_behind(power, images, most)
+    return power
+
+
+def images_undone(images, most):
+    """The images of the turner that undoes the one with some images, None if its length is above the most."""
+    letters = len(images)
+    sides = sides_of(images)
+    ways = sides_of(single_rows(letters))
+    numbers = list(sides)
+    step = next_step(sides, ways, numbers)
+    while step is not None:
+        goal, piece = step
+        put_behind(sides, goal, piece)
+        put_behind(ways, goal, piece)
+        # A way is what the undoing turner leads the row to: from a length above the most it is told by this.
+        if len(ways[goal]) > most * len(sides[goal]):
+            return None
+        step = next_step(sides, ways, numbers)
+    undone = tuple([tuple(ways[number]) for letter in range(1, letters + 1) for number in numbers
+                    if sides[number] == [letter]])
+    return undone if length_of(undone) <= most else None
