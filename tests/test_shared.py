@@ -5,7 +5,7 @@ import unittest
 import brute
 import drawn
 from noroadback.base.rows import common_end, times
-from noroadback.base.sides import put_behind, sides_of, single_rows, told_row
+from noroadback.base.sides import put_behind, row_of, sides_of, single_rows, text_of, told_row
 from noroadback.turns.images import images_behind, images_to_power, images_undone
 
 
@@ -14,9 +14,10 @@ class Rows(unittest.TestCase):
         rng = drawn.dice(1)
         for size in list(range(20)) + [63, 64, 65, 100, 1000]:
             end = [rng.choice([1, 2]) for _ in range(size)]
+            self.assertEqual(row_of(text_of(end)), tuple(end))
             for one, other in [([], []), ([], [1]), ([1], []), ([1], [2]), ([2] * 40, [1] * 40), ([1], [2, 2, 2])]:
                 self.assertEqual(common_end(one + end, other + end), size)
-                self.assertEqual(common_end(other + end, one + end), size)
+                self.assertEqual(common_end(text_of(other + end), text_of(one + end)), size)
 
     def test_products_of_two_words(self):
         rng = drawn.dice(2)
@@ -41,7 +42,7 @@ class Sides(unittest.TestCase):
                 else:
                     words[-goal] = brute.times(brute.back(tail), words[-goal])
                 for number, word in words.items():
-                    self.assertEqual((tuple(sides[number]), tuple(sides[-number])), (word, brute.back(word)))
+                    self.assertEqual((row_of(sides[number]), row_of(sides[-number])), (word, brute.back(word)))
 
     def test_told_rows(self):
         rng = drawn.dice(4)
@@ -50,6 +51,17 @@ class Sides(unittest.TestCase):
             way = drawn.way(rng, len(words), 12)
             self.assertEqual(told_row(sides_of(words), way), brute.told(words, way))
         self.assertEqual(single_rows(3), ((1,), (2,), (3,)))
+
+    def test_told_rows_stop_where_they_are_long_enough(self):
+        sides = sides_of(((1,) * 100, (2,)))
+        for way in [(1,) * 1024, (2,) * 512 + (1,) * 512]:
+            part = told_row(sides, way, 150)
+            self.assertTrue(150 < len(part) <= 512)
+        for way in [(1,), (2,) * 150, (1, 2, 2), (1, -1) * 500, ()]:
+            self.assertEqual(told_row(sides, way, 150), told_row(sides, way))
+        for way in [(1, 1, 2, 2), (2, 2, 1, 1)]:
+            self.assertEqual(told_row(sides, way, 150), (1,) * 200)
+        self.assertEqual(told_row(sides, (1, 1), 100), (1,) * 200)
 
 
 class Bounds(unittest.TestCase):

@@ -4,7 +4,7 @@ from noroadback.base.folding import base_of, folded, has_all, led_point, permuta
 from noroadback.base.integers import is_within
 from noroadback.base.rows import joined, opposite
 from noroadback.base.shortening import level_step, next_step, shortening_step
-from noroadback.base.sides import put_behind, sides_of, single_rows, told_row
+from noroadback.base.sides import SIGNS, put_behind, row_of, sides_of, single_rows, told_row
 from noroadback.base.words import MAX_WORD, check_letters, check_words, is_bare_row
 from noroadback.errors import InvalidWord
 
@@ -99,13 +99,13 @@ def way_to(words, word):
     sides = sides_of([*words, word])
     ways = sides_of(single_rows(aim))
     numbers = [number for number in sides if abs(number) != aim]
-    while sides[aim] != []:
+    while sides[aim] != "":
         goal, piece = step_to(sides, ways, numbers, aim)
         put_behind(sides, goal, piece)
         put_behind(ways, goal, piece)
     # Where the aim stands in its own way, the word stands; what this makes with the rest is ().
-    place = ways[aim].index(aim)
-    return joined((opposite(ways[aim][:place]), opposite(ways[aim][place + 1:])))
+    ahead, _, behind = ways[aim].partition(SIGNS[aim])
+    return joined((opposite(row_of(ahead)), opposite(row_of(behind))))
 
 
 def step_to(sides, ways, numbers, aim):

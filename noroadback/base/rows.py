@@ -35,19 +35,19 @@ def times(one, other):
 
 
 def do_agree(one, other, first, last):
-    """Whether two lists have so many entries, and agree in them, told from behind."""
+    """Whether two rows, or texts, have so many entries, and agree in them, told from behind."""
     if last > min(len(one), len(other)):
         return False
     return one[len(one) - last:len(one) - first] == other[len(other) - last:len(other) - first]
 
 
 def common_end(one, other):
-    """How many last entries two lists have in common."""
+    """How many last entries two rows, or texts, have in common."""
     if not do_agree(one, other, 0, 1):
         return 0
     known = 0
     step = 1
-    # Many entries are compared at once: lists that cancel can be very long.
+    # Many entries are compared at once: what two long rows have in common can be long.
     while do_agree(one, other, known, known + step):
         known = known + step
         step = 2 * step

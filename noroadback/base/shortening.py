@@ -14,7 +14,7 @@ def meetings(sides, goals, pieces):
         last = sides[goal][-1:]
         for piece in pieces:
             # Most rows end with unlike entries, which is seen fast.
-            if last != [] and sides[piece][-1:] == last and abs(goal) != abs(piece):
+            if last != "" and sides[piece][-1:] == last and abs(goal) != abs(piece):
                 found.append((goal, piece, common_end(sides[goal], sides[piece])))
     return found
 

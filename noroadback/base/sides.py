@@ -1,10 +1,31 @@
 """Rows with numbers, and rows that are made of them.
 
-Sides are a dict that has, for each number of a row from 1 on, the row as a list, and for the opposite
-number its contrary. Nothing is checked here, and rows can have any length.
+Sides are a dict that has, for each number of a row from 1 on, the row, and for the opposite number its
+contrary. Rows stand in them as texts, with a sign for each entry: long texts are cut, put together and
+compared much faster than long tuples. Nothing is checked here, and rows can have any length.
 """
 
 from noroadback.base.rows import common_end, opposite
+
+# Six words and one more are the most rows that are numbered.
+SIGNS = {
+    1: "a", 2: "b", 3: "c", 4: "d", 5: "e", 6: "f", 7: "g",
+    -1: "A", -2: "B", -3: "C", -4: "D", -5: "E", -6: "F", -7: "G",
+}
+ENTRIES = {
+    "a": 1, "b": 2, "c": 3, "d": 4, "e": 5, "f": 6, "g": 7,
+    "A": -1, "B": -2, "C": -3, "D": -4, "E": -5, "F": -6, "G": -7,
+}
+
+
+def text_of(row):
+    """The text of a row."""
+    return "".join([SIGNS[entry] for entry in row])
+
+
+def row_of(text):
+    """The row that a text tells."""
+    return tuple([ENTRIES[sign] for sign in text])
 
 
 def single_rows(most):
@@ -16,18 +37,23 @@ def sides_of(rows):
     """The sides of some rows."""
     sides = {}
     for number, row in enumerate(rows, start=1):
-        sides[number] = list(row)
-        sides[-number] = list(opposite(row))
+        sides[number] = text_of(row)
+        sides[-number] = text_of(opposite(row))
     return sides
 
 
+def met(one, other):
+    """The pair of a product and of its contrary, for two pairs of a text and of its contrary."""
+    struck = common_end(one[0], other[1])
+    return (
+        one[0][:len(one[0]) - struck] + other[0][struck:],
+        other[1][:len(other[1]) - struck] + one[1][struck:],
+    )
+
+
 def put_behind(sides, goal, piece):
-    """Put the row of the number `piece` behind that of the number `goal`; they are numbers of two rows."""
-    struck = common_end(sides[goal], sides[-piece])
-    kept = len(sides[piece]) - struck
-    size = len(sides[goal])
-    sides[goal][size - struck:] = sides[piece][struck:]
-    sides[-goal][:struck] = sides[-piece][:kept]
+    """Put the row of the number `piece` behind that of the number `goal`."""
+    sides[goal], sides[-goal] = met((sides[goal], sides[-goal]), (sides[piece], sides[-piece]))
 
 
 def exchange(sides, one, other):
@@ -35,15 +61,25 @@ def exchange(sides, one, other):
     sides[one], sides[other] = sides[other], sides[one]
 
 
-def told_row(sides, numbers, enough=None):
-    """The product of the rows of some numbers.
+def told_sides(sides, numbers, enough):
+    """The pair of the product of the rows of some numbers, and of its contrary, as texts.
 
-    It is given up, and what is there is returned, where it has more entries than are told to be enough.
+    If a part of it has more entries than are told to be enough, this part is returned.
     """
-    row = []
-    for number in numbers:
-        struck = common_end(row, sides[-number])
-        row[len(row) - struck:] = sides[number][struck:]
-        if enough is not None and len(row) > enough:
-            break
-    return tuple(row)
+    if len(numbers) == 0:
+        return "", ""
+    if len(numbers) == 1:
+        return sides[numbers[0]], sides[-numbers[0]]
+    half = len(numbers) // 2
+    one = told_sides(sides, numbers[:half], enough)
+    if enough is not None and len(one[0]) > enough:
+        return one
+    other = told_sides(sides, numbers[half:], enough)
+    if enough is not None and len(other[0]) > enough:
+        return other
+    return met(one, other)
+
+
+def told_row(sides, numbers, enough=None):
+    """The product of the rows of some numbers, or a part of it with more entries than are told to be enough."""
+    return row_of(told_sides(sides, numbers, enough)[0])

@@ -1,7 +1,7 @@
 """Images of turners: tuples of words that make all. Nothing is checked here; they can have any length."""
 
 from noroadback.base.shortening import next_step
-from noroadback.base.sides import put_behind, sides_of, single_rows, told_row
+from noroadback.base.sides import SIGNS, put_behind, row_of, sides_of, single_rows, told_row
 
 
 def length_of(images):
@@ -12,9 +12,9 @@ def length_of(images):
 def images_behind(one, other, most):
     """The images of the product of the turners with some images, None if its length is above the most."""
     sides = sides_of(one)
-    # Where two words meet without strikes, their images lose at most so many entries each as all images
-    # of letters have. So a beginning that is longer by this than the most cannot become short again.
-    enough = most + length_of(one)
+    # Where two words meet without strikes, their images lose at most so many entries each as all images of
+    # letters have. So a part that is longer by twice this than the most cannot become short again.
+    enough = most + 2 * length_of(one)
     images = tuple([told_row(sides, image, enough) for image in other])
     return images if length_of(images) <= most else None
 
@@ -43,6 +43,6 @@ def images_undone(images, most):
         if len(ways[goal]) > most * len(sides[goal]):
             return None
         step = next_step(sides, ways, numbers)
-    undone = tuple([tuple(ways[number]) for letter in range(1, letters + 1) for number in numbers
-                    if sides[number] == [letter]])
+    undone = tuple([row_of(ways[number]) for letter in range(1, letters + 1) for number in numbers
+                    if sides[number] == SIGNS[letter]])
     return undone if length_of(undone) <= most else None

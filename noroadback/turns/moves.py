@@ -1,7 +1,7 @@
 """Rows of single moves that give turners."""
 
 from noroadback.base.shortening import next_step
-from noroadback.base.sides import put_behind, sides_of
+from noroadback.base.sides import SIGNS, put_behind, sides_of
 from noroadback.base.words import check_letters
 from noroadback.errors import InvalidOperation
 from noroadback.turns.single import do_single, images_by, is_move, undone_move
@@ -42,7 +42,7 @@ def sorting_moves(sides):
     """The list of single moves that leave each letter to itself, of images that are letters and contraries."""
     moves = []
     for letter in range(1, len(sides) // 2 + 1):
-        place = [number for number in sides if sides[number] == [letter]][0]
+        place = [number for number in sides if sides[number] == SIGNS[letter]][0]
         wanted = [("swap", letter, abs(place))] if abs(place) != letter else []
         wanted = wanted + ([("turn", letter)] if place < 0 else [])
         for move in wanted:

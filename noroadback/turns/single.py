@@ -1,7 +1,7 @@
 """Single moves: the turners that lead all letters but one or two to themselves."""
 
 from noroadback.base.integers import is_integer, is_within
-from noroadback.base.sides import exchange, put_behind, sides_of, single_rows
+from noroadback.base.sides import exchange, put_behind, row_of, sides_of, single_rows
 
 
 def is_move(letters, value):
@@ -44,4 +44,4 @@ def images_by(letters, moves, most):
         do_single(sides, move)
         if sum([len(sides[letter]) for letter in range(1, letters + 1)]) > most:
             return None
-    return tuple([tuple(sides[letter]) for letter in range(1, letters + 1)])
+    return tuple([row_of(sides[letter]) for letter in range(1, letters + 1)])

@@ -4,7 +4,7 @@ from noroadback.base.folding import folded, has_all
 from noroadback.base.integers import is_passed, is_within
 from noroadback.base.lots import are_words
 from noroadback.base.rows import times
-from noroadback.base.sides import sides_of, single_rows, told_row
+from noroadback.base.sides import row_of, sides_of, single_rows, told_row
 from noroadback.base.words import MAX_WORD, check_letters, check_words, is_bare_row
 from noroadback.errors import InvalidNumber, InvalidOperation, InvalidSum, InvalidTable, InvalidWord, TooMany
 from noroadback.turns.images import images_undone
@@ -164,7 +164,7 @@ def slopes_led(letters, led_to, word):
 
 def table_led(letters, rows, words):
     """The slope table of some words, each sum led by the letters being led to the told rows."""
-    led_to = {number: tuple(row) for number, row in sides_of(rows).items()}
+    led_to = {number: row_of(text) for number, text in sides_of(rows).items()}
     return tuple([slopes_led(letters, led_to, word) for word in words])
 
 
