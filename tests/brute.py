@@ -161,3 +161,113 @@ def is_in_lot(ties, word):
 def rank(ties):
     """The rank of a web."""
     return len(ties) // 2 - len({0} | {start for start, _, _ in ties}) + 1
+
+
+def undone(images):
+    """The images that undo some images: words are put together until letters are left; slow for long images."""
+    letters = len(images)
+    rows = {number: (images[number - 1], (number,)) for number in range(1, letters + 1)}
+    while length([row for row, _ in rows.values()]) > letters:
+        found = []
+        for one in rows:
+            for other in entries(letters):
+                if abs(other) != one:
+                    row, way = rows[abs(other)] if other > 0 else map(back, rows[-other])
+                    found.append((one, times(rows[one][0], row), times(rows[one][1], way)))
+                    found.append((one, times(row, rows[one][0]), times(way, rows[one][1])))
+        gains = [(len(rows[one][0]) - len(row), -len(way), one, row, way) for one, row, way in found]
+        gain, _, one, row, way = max(gains)
+        if gain <= 0:
+            rest = [told for told in gains if told[0] == 0 and (tuple(map(abs, told[3])), told[3]) < (
+                tuple(map(abs, rows[told[2]][0])), rows[told[2]][0])]
+            _, _, one, row, way = rest[0]
+        rows[one] = (row, way)
+    ways = dict(rows.values())
+    return tuple(ways[(letter,)] if (letter,) in ways else back(ways[(-letter,)]) for letter in range(1, letters + 1))
+
+
+def begin(ties, tie):
+    """The point at which a directed tie begins."""
+    return ties[tie - 1][0] if tie > 0 else ties[-tie - 1][1]
+
+
+def end(ties, tie):
+    """The point at which a directed tie ends."""
+    return begin(ties, -tie)
+
+
+def points(ties):
+    """All points, ascending."""
+    return sorted({point for pair in ties for point in pair})
+
+
+def beginnings(ties, point):
+    """The directed ties that begin at a point, ascending."""
+    return tuple(tie for tie in entries(len(ties)) if begin(ties, tie) == point)
+
+
+def joins(ties, chosen, one, other):
+    """Whether some ties lead from one point to another one."""
+    reached = {one}
+    for _ in ties:
+        for tie in chosen:
+            if set(ties[tie - 1]) & reached:
+                reached |= set(ties[tie - 1])
+    return other in reached
+
+
+def tree(ties):
+    """The least tree: ties that close no round with those ahead."""
+    taken = []
+    for tie in range(1, len(ties) + 1):
+        if not joins(ties, taken, *ties[tie - 1]):
+            taken.append(tie)
+    return tuple(taken)
+
+
+def tree_road(ties, one, other):
+    """The tight road in the least tree from one point to another one, by trying all."""
+    waiting = [(one, ())]
+    for point, road in waiting:
+        if point == other:
+            return road
+        for tie in beginnings(ties, point):
+            if abs(tie) in tree(ties) and (not road or road[-1] != -tie):
+                waiting.append((end(ties, tie), road + (tie,)))
+
+
+def base_rounds(ties):
+    """The rounds at 0 of the ties outside the least tree, and the words of the base naming."""
+    outside = [tie for tie in range(1, len(ties) + 1) if tie not in tree(ties)]
+    rounds = tuple(struck(tree_road(ties, 0, begin(ties, tie)) + (tie,) + tree_road(ties, end(ties, tie), 0)) for tie in outside)
+    return rounds, tuple((outside.index(tie) + 1,) if tie in outside else () for tie in range(1, len(ties) + 1))
+
+
+def reading(words, road):
+    """The product of the words of the ties of a road."""
+    return told(words, road)
+
+
+def led(images, road):
+    """What a road is led to, tight."""
+    return told(images, road)
+
+
+def put_together(images, road):
+    """The images of the ties of a road, one behind the other."""
+    return sum((images[tie - 1] if tie > 0 else back(images[-tie - 1]) for tie in road), ())
+
+
+def ring(word):
+    """The least rotation of what is left when opposites are struck out, also the last and the first entry."""
+    return min(rotations(core_of(shrunk(word))))
+
+
+def turned(word, by):
+    """A word turned by another one."""
+    return shrunk(by + word + back(by))
+
+
+def alike_words(ones, others, most):
+    """All words of at most a length by which each of some words is turned to that of other ones."""
+    return [word for word in words_to(len(ones), most) if [turned(one, word) for one in ones] == list(others)]

@@ -67,3 +67,50 @@ def way(rng, number, many):
 def terms(rng, letters, number, most):
     """Terms of a sum: at most so many words of at most a length."""
     return {word(rng, letters, most): rng.choice([-3, -2, -1, 1, 2, 10 ** 20]) for _ in range(rng.randint(0, number))}
+
+
+def ties(rng, rank, most):
+    """Ties of a web of a rank with at most so many points."""
+    points = rng.randint(1, most)
+    names = list(range(points))
+    rng.shuffle(names)
+    pairs = [(names[place], names[rng.randrange(place)]) for place in range(1, points)]
+    pairs += [(rng.randrange(points), rng.randrange(points)) for _ in range(rank)]
+    rng.shuffle(pairs)
+    return tuple(pair if rng.random() < 0.5 else pair[::-1] for pair in pairs)
+
+
+def road(rng, pairs, start, many):
+    """A road of so many ties from a point on, as a rule not tight; () if no tie begins there."""
+    row = []
+    for _ in range(many):
+        row.append(rng.choice([tie for tie in brute.entries(len(pairs)) if brute.begin(pairs, tie) == start]))
+        start = brute.end(pairs, row[-1])
+    return tuple(row)
+
+
+def parts(rng, letters, most=4, turner=None):
+    """Ties, words and images of a stand, and the images of its very turner, made from drawn moves and roads.
+
+    The turner of the letters of the base naming is put on the web; each point is moved along a drawn road, the words are
+    led by a drawn turner, and shifted at each point.
+    """
+    pairs = ties(rng, letters, most)
+    inner = turner or images(rng, letters, rng.randint(0, 8), 6)
+    naming = images(rng, letters, rng.randint(0, 5), 4)
+    rounds, base = brute.base_rounds(pairs)
+    points = sorted({point for pair in pairs for point in pair})
+    shifts = [()] + [word(rng, letters, 3) for _ in points[1:]]
+    words_told = tuple(brute.times(brute.back(shifts[begin]), brute.told(naming, base[tie - 1]), shifts[end])
+                       for tie, (begin, end) in enumerate(pairs, start=1))
+    led = [brute.told(rounds, inner[name[0] - 1]) if name else () for name in base]
+    while True:
+        moved = [brute.shrunk(road(rng, pairs, 0, rng.randint(0, 4))) for _ in points]
+        found = tuple(brute.shrunk(brute.back(moved[begin]) + led[tie - 1] + moved[end])
+                      for tie, (begin, end) in enumerate(pairs, start=1))
+        if all(found):
+            break
+    # The rounds at the point 0 read to what the naming leads letters to; what they are led to is read where 0 is led to.
+    goals = [brute.reading(words_told, brute.led(found, row)) for row in rounds]
+    turner_images = brute.behind(goals, brute.undone(naming))
+    return pairs, words_told, found, turner_images

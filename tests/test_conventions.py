@@ -4,13 +4,19 @@ import inspect
 import unittest
 
 from noroadback.base import fractions, lots, rings, words
-from noroadback.errors import InvalidNumber, InvalidTurner, InvalidWord
-from noroadback.turns import moves, slopes, turners
+from noroadback.errors import InvalidNumber, InvalidStand, InvalidTable, InvalidTurner, InvalidWeb, InvalidWord
+from noroadback.turns import alike, moves, slopes, turners, two
 from noroadback.turns.slopes import Sum
 from noroadback.turns.turners import Turner
+from noroadback.webs import stands, webs
+from noroadback.webs.stands import Stand
+from noroadback.webs.webs import Web
 from wrong import STRANGE
 
 GROW, ONE = Turner(((1, 2), (1,))), Sum.word(2, ())
+THETA = Web(((0, 1), (0, 1), (0, 1)))
+HALF = Stand(((0, 1), (0, 0), (1, 0)), ((1,), (2,), ()), ((1, 3), (1, 3), (2,)))
+MODULES = (words, fractions, rings, lots, turners, moves, slopes, alike, two, webs, stands)
 PARAMETERS = {
     words.is_word: "letters value", words.bare: "letters row", words.product: "letters *words",
     words.contrary: "letters word", words.power: "letters word many", words.root: "letters word",
@@ -28,6 +34,18 @@ PARAMETERS = {
     moves.moves_of: "turner", moves.is_moves_of: "turner value", moves.made_by: "letters moves",
     slopes.slope: "letters word letter", slopes.slope_table: "letters words", slopes.sums_product: "one other",
     slopes.undone_slopes: "letters words", slopes.is_undone_slopes: "letters words value",
+    alike.turned_by: "letters word", alike.inner_word: "turner", alike.alike_word: "one other",
+    alike.is_alike_word: "one other value", alike.table_order: "table", alike.turner_order: "turner",
+    alike.exact_order: "turner",
+    two.base_ring: "first second", two.is_base_letter: "value", two.of_table: "table", two.two_kind: "turner",
+    two.is_two_kind: "turner value", two.quotient_round: "turner", two.two_alike: "one other",
+    two.is_two_alike: "one other value", two.commutator_sign: "turner",
+    webs.least_tree: "web", webs.base_rounds: "web", webs.road_between: "web one other", webs.pieces: "web ties",
+    webs.is_forest: "web ties", webs.tight_round: "web road", webs.is_naming: "web value", webs.base_naming: "web",
+    webs.reading: "web words road",
+    stands.stand_fault: "ties words images", stands.turner_of: "stand", stands.is_stand_of: "turner value",
+    stands.rose_stand: "turner", stands.led: "stand road", stands.led_point: "stand point", stands.behind: "one other",
+    stands.stand_power: "stand many", stands.road_of: "stand word", stands.word_of: "stand road",
 }
 METHODS = {
     Turner: {
@@ -39,21 +57,40 @@ METHODS = {
         "__mul__": "self other", "total": "self", "led": "self turner", "__eq__": "self other", "__len__": "self",
         "__bool__": "self", "__iter__": "self",
     },
+    Web: {
+        "__init__": "self ties", "begin": "self tie", "end": "self tie", "beginnings": "self point", "loose_points": "self",
+        "is_road": "self value", "tight": "self road", "gone_back": "self road", "__eq__": "self other", "__len__": "self",
+        "__iter__": "self", "__str__": "self",
+    },
+    Stand: {"__init__": "self ties words images", "__eq__": "self other", "__str__": "self"},
 }
-PROPERTIES = {Turner: ("letters", "images", "length"), Sum: ("letters", "terms")}
+PROPERTIES = {
+    Turner: ("letters", "images", "length"), Sum: ("letters", "terms"), Web: ("ties", "points", "size", "rank"),
+    Stand: ("web", "letters", "words", "images", "size", "length"),
+}
 RIGHT = {
     "letters": 2, "value": (1, 2), "row": (1, -1, 2), "*words": (2, 2), "word": (1, 2, -1), "many": 3, "one": (1, 2),
     "other": (2, 1), "length": 3, "top": 4, "bottom": -6, "by": (2,), "words": ((1, 2), (2,)), "turner": GROW,
-    "table": ((1, 2), (3, 4)), "moves": (("turn", 1), ("swap", 1, 2)), "letter": 2,
+    "table": ((1, 2), (3, 4)), "moves": (("turn", 1), ("swap", 1, 2)), "letter": 2, "web": THETA, "stand": HALF,
+    "ties": (1, 3), "road": (1, -3), "point": 1, "first": 3, "second": -2,
 }
 OWN = {
     lots.are_one_lot: (2, ((1,),), ((1, 1),)), turners.table_product: (((1, 2), (3, 4)), ((0, 1), (1, 1))),
-    slopes.sums_product: (((ONE,),), ((ONE,),)),
+    slopes.sums_product: (((ONE,),), ((ONE,),)), alike.alike_word: (GROW, GROW), alike.is_alike_word: (GROW, GROW, ()),
+    two.of_table: (((2, 1), (1, 1)),), two.two_alike: (GROW, GROW), two.is_two_alike: (GROW, GROW, None),
+    webs.road_between: (THETA, 0, 1), webs.reading: (THETA, ((1,), (2,), ()), (1, -2)),
+    stands.stand_fault: (HALF.web.ties, HALF.words, HALF.images), stands.led: (HALF, (1, 3)), stands.behind: (HALF, HALF),
+    stands.word_of: (HALF, (1, 3)),
 }
 JUDGES = [(words.is_word, (2,)), (words.is_common_root, (2, (1,), (1,))), (fractions.is_fraction, ()),
           (rings.is_ring, (2,)), (rings.is_between, (2, (1,), (1,))), (lots.is_all_paper, (2, ((1,), (2,)))),
-          (lots.is_way, (2, ((1,),), (1,))), (moves.is_moves_of, (GROW,)), (slopes.is_undone_slopes, (2, ((1,), (2,))))]
-WRONG_AHEAD = {moves.is_moves_of: (InvalidTurner,)}
+          (lots.is_way, (2, ((1,),), (1,))), (moves.is_moves_of, (GROW,)), (slopes.is_undone_slopes, (2, ((1,), (2,)))),
+          (alike.is_alike_word, (GROW, GROW)), (two.is_base_letter, ()), (two.is_two_kind, (GROW,)),
+          (two.is_two_alike, (GROW, GROW)), (webs.is_naming, (THETA,)), (stands.is_stand_of, (GROW,))]
+WRONG_AHEAD = {
+    moves.is_moves_of: (InvalidTurner,), alike.is_alike_word: (InvalidTurner,) * 2, two.is_two_kind: (InvalidTurner,),
+    two.is_two_alike: (InvalidTurner,) * 2, webs.is_naming: (InvalidWeb,), stands.is_stand_of: (InvalidTurner,),
+}
 
 
 def right_arguments(call):
@@ -66,9 +103,8 @@ class Interface(unittest.TestCase):
         for call, told in PARAMETERS.items():
             found = [str(parameter) for parameter in inspect.signature(call).parameters.values()]
             self.assertEqual(found, told.split())
-            home = [module for module in (words, fractions, rings, lots, turners, moves, slopes)
-                    if getattr(module, call.__name__, None) is call]
-            self.assertEqual([module.__name__ for module in home], [call.__module__])
+            home = [module.__name__ for module in MODULES if getattr(module, call.__name__, None) is call]
+            self.assertIn(call.__module__, home)
 
     def test_methods_stand_in_their_classes_with_their_parameters(self):
         for place, methods in METHODS.items():
@@ -76,7 +112,7 @@ class Interface(unittest.TestCase):
                 self.assertIn(name, vars(place))
                 found = [str(parameter) for parameter in inspect.signature(getattr(place, name)).parameters.values()]
                 self.assertEqual(found, told.split())
-            self.assertEqual(place.__module__, {Turner: turners, Sum: slopes}[place].__name__)
+            self.assertEqual(place.__module__, {Turner: turners, Sum: slopes, Web: webs, Stand: stands}[place].__name__)
 
     def test_properties_are_there_from_the_start(self):
         for place, names in PROPERTIES.items():
@@ -86,6 +122,9 @@ class Interface(unittest.TestCase):
             self.assertEqual((value.letters, value.length), (2, sum(map(len, value.images))))
         for value in (ONE, ONE + ONE, ONE - ONE, ONE * ONE, ONE.led(GROW), slopes.slope(2, (1,), 1)):
             self.assertEqual((value.letters, type(value.terms)), (2, dict))
+        for value in (HALF, stands.rose_stand(GROW), stands.behind(HALF, HALF), stands.stand_power(HALF, 3)):
+            self.assertEqual((type(value.web), value.letters, value.size), (Web, 2, len(value.images)))
+            self.assertEqual((value.web.rank, len(value.words), value.length), (2, value.size, sum(map(len, value.images))))
 
     def test_lists_are_generators(self):
         for call in (words.words_of, rings.rings_of):
@@ -112,6 +151,13 @@ class Calls(unittest.TestCase):
             turners.table_product(((1,),), ((1,),)), moves.moves_of(GROW), moves.made_by(2, (("behind", 1, 2),)).images,
             slopes.slope_table(2, ((1,),)), slopes.sums_product(((ONE,),), ((ONE,),)), slopes.undone_slopes(1, ((1,),)),
             *(ONE + ONE),
+            alike.turned_by(2, (1,)).images, alike.inner_word(alike.turned_by(2, (1,))), alike.turner_order(Turner.idle(2)),
+            two.base_ring(1, 2), two.of_table(((2, 1), (1, 1))).images, two.two_kind(GROW), two.quotient_round(GROW),
+            THETA.ties, THETA.beginnings(0), THETA.loose_points(), THETA.tight((1, -1)), THETA.gone_back((1, -2)), *THETA,
+            webs.least_tree(THETA), webs.base_rounds(THETA), webs.road_between(THETA, 0, 1), webs.pieces(THETA, (1, 2)),
+            webs.tight_round(THETA, (1, -2)), webs.base_naming(THETA), webs.reading(THETA, ((1,), (2,), ()), (1, -2)),
+            HALF.words, HALF.images, stands.led(HALF, (1, 3)), stands.behind(HALF, HALF).images, stands.road_of(HALF, (1,)),
+            stands.word_of(HALF, (1, 3)), stands.rose_stand(GROW).words, stands.stand_fault(HALF.web.ties, HALF.words, ((1, 3),) * 3),
         ]
         for one in found:
             self.assertIs(type(one), tuple)
@@ -136,7 +182,7 @@ class Calls(unittest.TestCase):
 
 class Judges(unittest.TestCase):
     def test_answers_are_true_or_false(self):
-        for call, ahead in JUDGES:
+        for call, ahead in JUDGES + [(THETA.is_road, ())]:
             for value in STRANGE + [0, 10 ** 5000, (10 ** 5000,), (1, 10 ** 5000), ("root", (), 10 ** 5000, 1)]:
                 self.assertIn(type(call(*ahead, value)), (bool,))
 

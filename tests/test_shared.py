@@ -6,7 +6,10 @@ import brute
 import drawn
 from noroadback.base.rows import common_end, times
 from noroadback.base.sides import put_behind, row_of, sides_of, single_rows, text_of, told_row
-from noroadback.turns.images import images_behind, images_to_power, images_undone
+from noroadback.base.squares import row_behind, square_power, square_product, unit
+from noroadback.turns.forms import cross, kept_row, row_beside, undone_square
+from noroadback.turns.images import images_behind, images_leading, images_to_power, images_undone
+from noroadback.turns.turning import rows_turned, word_by
 
 
 class Rows(unittest.TestCase):
@@ -92,3 +95,47 @@ class Bounds(unittest.TestCase):
         self.assertEqual(images_to_power(((1, 2), (1,)), 3, 8), ((1, 2, 1, 1, 2), (1, 2, 1)))
         self.assertIsNone(images_to_power(((1, 2), (1,)), 3, 7))
         self.assertIsNone(images_to_power(((1, 2), (1,)), 1, 2))
+
+    def test_images_leading(self):
+        rng = drawn.dice(7)
+        for number in range(60):
+            letters = 1 + number % 5
+            rows, images = drawn.images(rng, letters, 10, 8), drawn.images(rng, letters, 10, 8)
+            goals = brute.behind(images, rows)
+            self.assertEqual(images_leading(rows, goals), images)
+        # The goals can have other letters.
+        self.assertEqual(images_leading(((2,), (1, 2)), ((24, -7), (5,))), ((5, 7, -24), (24, -7)))
+
+
+class Turning(unittest.TestCase):
+    def test_words_between_rows(self):
+        rng = drawn.dice(8)
+        for number in range(100):
+            letters = 2 + number % 4
+            rows = drawn.images(rng, letters, 12, 10)
+            root = rng.choice(rows)
+            by = brute.times(drawn.word(rng, letters, 4), brute.raised(root, rng.randint(-9, 9)))
+            turned = rows_turned(rows, by)
+            self.assertEqual(turned, tuple(brute.turned(row, by) for row in rows))
+            self.assertEqual(word_by(rows, turned), by)
+
+
+class Squares(unittest.TestCase):
+    def test_products_and_powers(self):
+        rng = drawn.dice(9)
+        for size in range(1, 7):
+            one, other = (tuple(tuple(rng.randint(-9, 9) for _ in range(size)) for _ in range(size)) for _ in range(2))
+            told = tuple(tuple(sum(one[row][k] * other[k][column] for k in range(size)) for column in range(size)) for row in range(size))
+            self.assertEqual(square_product(one, other), told)
+            self.assertEqual(row_behind(one[0], other), told[0])
+            power = unit(size)
+            for many in range(12):
+                self.assertEqual(square_power(one, many), power)
+                power = square_product(power, one)
+
+    def test_rows_of_two(self):
+        for row in [(1, 0), (0, 1), (-1, 0), (0, -1), (3, 5), (-7, 4), (12, -5), (1, 1)]:
+            self.assertEqual(cross(row_beside(row), row), 1)
+        for table in [((1, 1), (1, 0)), ((2, 1), (1, 1)), ((0, -1), (1, 5))]:
+            self.assertEqual(square_product(table, undone_square(table)), unit(2))
+        self.assertEqual([kept_row(((1, 3), (0, 1)), 1), kept_row(((-1, 0), (4, -1)), -1)], [(0, -1), (1, 0)])

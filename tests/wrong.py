@@ -2,9 +2,11 @@
 
 import unittest
 
-from noroadback.errors import InvalidNumber, InvalidTurner, InvalidWord
+from noroadback.errors import InvalidNumber, InvalidOperation, InvalidRoad, InvalidStand, InvalidTurner, InvalidWeb, InvalidWord
 from noroadback.turns.slopes import Sum
 from noroadback.turns.turners import Turner
+from noroadback.webs.stands import Stand
+from noroadback.webs.webs import Web
 
 
 def nested(depth):
@@ -20,6 +22,7 @@ STRANGE = [
     None, True, False, "", "1", "abc", "\t\n", "x" * 4000, [], [1], {}, {1: 1}, {(1,): 2}, ((),), ((1,),), ([1],), (None,),
     (True,), (False,), ("1",), (0,), (HUGE,), (-HUGE,), nested(8), (nested(7), [nested(6)]), [[[[[[[[1]]]]]]]],
     {"a": {"b": {"c": (1, [2])}}}, InvalidWord("no word"), InvalidNumber(3), Turner(((1, 2), (1,))), Sum(2, {(1,): 1}),
+    Web(((0, 0), (0, 0), (0, 0))), Stand(((0, 0),) * 3, ((1,), (2,), (3,)), ((2,), (3,), (1,))),
 ]
 # From here on, with two letters.
 WRONG_WORDS = STRANGE + [
@@ -42,11 +45,28 @@ WRONG_MOVES = STRANGE + [
     ("idle",), ("idle", 1), ("idle", 1, 2), (("turn", 1),), (None, 1, 2),
 ]
 WRONG_TURNERS = [value for value in STRANGE if not isinstance(value, Turner)] + [0, 1, HUGE, ((1, 2), (1,)), (1,), ()]
+WRONG_WEBS = [value for value in STRANGE if not isinstance(value, Web)] + [0, 1, HUGE, (), ((0, 0),), ((0, 1), (0, 1))]
+WRONG_STANDS = [value for value in STRANGE if not isinstance(value, Stand)] + [
+    0, 1, HUGE, (), (((0, 0),), ((1,),), ((1,),)), ((1, 2), (1,)),
+]
+# From here on, of a web of at most six ties.
+WRONG_ROADS = STRANGE + [
+    0, 1, HUGE, (7,), (-7,), (1, 0), (1, True), (1, None), (1, "2"), (1, (1,)), (1, [1]), [1], "1", (HUGE, 1), (10 ** 60,),
+]
+WRONG_TIES = STRANGE + [
+    0, 1, HUGE, (7,), (1, 7), (-1,), (1, 1), (2, 1), (1, 2, 2), (1, True), (True, 2), (1, None), (1, "2"), (1, (2,)), [1, 2], "12",
+    (1, HUGE), (0, 1), (-2, 1),
+]
 
 
 def integers_but(least, most):
     """Values that are no integers from the least to the most one."""
     return WRONG_INTEGERS + [least - 1, most + 1, -HUGE, HUGE, 10 ** 60, -10 ** 60]
+
+
+def directed_but(size):
+    """Values that are no directed ties of so many ties."""
+    return WRONG_INTEGERS + [0, size + 1, -size - 1, HUGE, -HUGE, 10 ** 60]
 
 
 class WrongInputs(unittest.TestCase):
@@ -58,7 +78,11 @@ class WrongInputs(unittest.TestCase):
             call(*given)
         self.assertIs(type(caught.exception), error)
         if name is not None:
-            self.assertIs(getattr(caught.exception, name), kept)
+            found = getattr(caught.exception, name)
+            if type(kept) in (int, tuple):
+                self.assertEqual((type(found), repr(found)), (type(kept), repr(kept)))
+            else:
+                self.assertIs(found, kept)
 
     def assert_refuses(self, call, right, wrongs):
         """`wrongs` has for each parameter a triple (error, attribute, wrong values), or None."""
@@ -98,3 +122,7 @@ WORD = (InvalidWord, None, WRONG_WORDS)
 LOT = (InvalidWord, None, WRONG_LOTS)
 WORDS = (InvalidWord, None, WRONG_LOTS + [()])
 TURNER = (InvalidTurner, None, WRONG_TURNERS)
+WEB = (InvalidWeb, None, WRONG_WEBS)
+STAND = (InvalidStand, None, WRONG_STANDS)
+ROAD = (InvalidRoad, None, WRONG_ROADS)
+TIES = (InvalidOperation, None, WRONG_TIES)

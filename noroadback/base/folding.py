@@ -40,7 +40,7 @@ def clash(goals, start, entry, end):
     return None
 
 
-def folded(letters, rows):
+def folded_web(letters, rows):
     """The folded web of the loops that read some rows.
 
     A row of the letters is in the lot of the rows exactly if it leads the point 0 to itself.

@@ -1,8 +1,8 @@
 """Lots of words: all products of some words and of their contraries."""
 
-from noroadback.base.folding import base_of, folded, has_all, led_point, permutations_of, rank_of
+from noroadback.base.folding import base_of, folded_web, has_all, led_point, permutations_of, rank_of
 from noroadback.base.integers import is_within
-from noroadback.base.rows import joined, opposite
+from noroadback.base.rows import opposite, product_of
 from noroadback.base.shortening import level_step, next_step, shortening_step
 from noroadback.base.sides import SIGNS, put_behind, row_of, sides_of, single_rows, told_row
 from noroadback.base.words import MAX_WORD, check_letters, check_words, is_bare_row
@@ -29,7 +29,7 @@ def web_of(letters, words):
     """The folded web of some words, behind their errors."""
     check_letters(letters)
     check_lot(letters, words)
-    return folded(letters, words)
+    return folded_web(letters, words)
 
 
 def all_paper(letters, words):
@@ -63,7 +63,7 @@ def way_of(letters, words, word):
     check_letters(letters)
     check_lot(letters, words)
     check_words(letters, (word,))
-    if led_point(folded(letters, words), word) != 0:
+    if led_point(folded_web(letters, words), word) != 0:
         return None
     return way_to(words, word)
 
@@ -105,7 +105,7 @@ def way_to(words, word):
         put_behind(ways, goal, piece)
     # Where the aim stands in its own way, the word stands; what this makes with the rest is ().
     ahead, _, behind = ways[aim].partition(SIGNS[aim])
-    return joined((opposite(row_of(ahead)), opposite(row_of(behind))))
+    return product_of((opposite(row_of(ahead)), opposite(row_of(behind))))
 
 
 def step_to(sides, ways, numbers, aim):

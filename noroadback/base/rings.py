@@ -3,7 +3,7 @@
 from math import gcd
 
 from noroadback.base.integers import integer_power, is_within
-from noroadback.base.rows import joined, least_start, opposite, ring_of, split_core
+from noroadback.base.rows import ring_of, split_core, turned_row, turning
 from noroadback.base.words import MAX_WORD, check_letters, check_words, entries_of, is_bare_row
 from noroadback.errors import InvalidNumber
 
@@ -33,7 +33,7 @@ def is_ring(letters, value):
 def turned(letters, word, by):
     """A word turned by another one, perhaps of more than 200 entries."""
     check_words(letters, (word, by))
-    return joined((by, word, opposite(by)))
+    return turned_row(word, by)
 
 
 def are_alike(letters, one, other):
@@ -45,16 +45,7 @@ def are_alike(letters, one, other):
 def between(letters, one, other):
     """A word by which the first word is turned to the second one, None if there is none."""
     check_words(letters, (one, other))
-    if ring_of(one) != ring_of(other):
-        return None
-    if one == ():
-        return ()
-    one_head, one_core = split_core(one)
-    other_head, other_core = split_core(other)
-    # The second core is the rotation of the first one from this place on, which
-    # is the first one turned back by what stands ahead of the place.
-    place = (least_start(one_core) - least_start(other_core)) % len(one_core)
-    return joined((other_head, opposite(one_core[:place]), opposite(one_head)))
+    return turning(one, other)
 
 
 def is_between(letters, one, other, value):
@@ -62,7 +53,7 @@ def is_between(letters, one, other, value):
     check_words(letters, (one, other))
     if not is_bare_row(letters, value, MAX_BETWEEN):
         return False
-    return joined((value, one, opposite(value))) == other
+    return turned_row(one, value) == other
 
 
 def longer_necklaces(letters, begun):

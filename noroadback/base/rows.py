@@ -20,7 +20,7 @@ def is_reduced(row):
     return all([row[place - 1] != -row[place] for place in range(1, len(row))])
 
 
-def joined(rows):
+def product_of(rows):
     """Some rows, one behind the other, reduced."""
     return reduced([entry for row in rows for entry in row])
 
@@ -143,3 +143,22 @@ def ring_of(row):
     """The least rotation of the core of a reduced row."""
     middle = split_core(row)[1]
     return rotated(middle, least_start(middle))
+
+
+def turning(one, other):
+    """A row by which one reduced row is turned to another one, None if there is none."""
+    if ring_of(one) != ring_of(other):
+        return None
+    if one == ():
+        return ()
+    one_head, one_core = split_core(one)
+    other_head, other_core = split_core(other)
+    # The second core is the rotation of the first one from this place on, which
+    # is the first one turned back by what stands ahead of the place.
+    place = (least_start(one_core) - least_start(other_core)) % len(one_core)
+    return product_of((other_head, opposite(one_core[:place]), opposite(one_head)))
+
+
+def turned_row(row, by):
+    """A reduced row turned by another one."""
+    return times(times(by, row), opposite(by))

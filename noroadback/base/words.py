@@ -1,7 +1,7 @@
 """Words: tuples of letters and contraries in which none stands beside its opposite."""
 
 from noroadback.base.integers import integer_power, is_integer, is_within
-from noroadback.base.rows import is_reduced, is_repeated, joined, opposite, reduced, repeated, root_of
+from noroadback.base.rows import is_reduced, is_repeated, opposite, product_of, reduced, repeated, root_of
 from noroadback.errors import InvalidNumber, InvalidWord, Refused, TooMany
 
 MAX_LETTERS = 5
@@ -44,6 +44,11 @@ def is_bare_row(letters, value, most):
     return is_row(letters, value, most) and is_reduced(value)
 
 
+def is_long_word(letters, value):
+    """Whether the value is a word of the letters, of any length."""
+    return isinstance(value, tuple) and is_bare_row(letters, value, len(value))
+
+
 def is_word(letters, value):
     """Whether the value is a word of the letters with at most 200 entries."""
     check_letters(letters)
@@ -63,7 +68,7 @@ def product(letters, *words):
     check_words(letters, words)
     if len(words) > MOST_MULTIPLIED:
         raise TooMany(MOST_MULTIPLIED)
-    return joined(words)
+    return product_of(words)
 
 
 def contrary(letters, word):
@@ -91,7 +96,7 @@ def root(letters, word):
 def common_root(letters, one, other):
     """A paper that shows that two words are powers of one word, or that they are not."""
     check_words(letters, (one, other))
-    first, second = joined((one, other)), joined((other, one))
+    first, second = product_of((one, other)), product_of((other, one))
     if first != second:
         return ("unlike", first, second)
     if one == () and other == ():
@@ -132,7 +137,7 @@ def is_unlike_paper(letters, one, other, value):
     # Rows are asked for first, since a row with True in the place of 1 is equal to one with 1.
     if len(value) != 3 or not all([is_row(letters, row, 2 * MAX_WORD) for row in value[1:]]):
         return False
-    first, second = joined((one, other)), joined((other, one))
+    first, second = product_of((one, other)), product_of((other, one))
     return first != second and value[1] == first and value[2] == second
 
 

@@ -1,1 +1,1 @@
-"""Turners of words, rows of single moves, and sums of words."""
+"""Turners of words, rows of single moves, sums of words, and what tells turners from one another."""

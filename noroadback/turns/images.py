@@ -28,21 +28,28 @@ def images_to_power(images, many, most):
     return power
 
 
-def images_undone(images, most):
-    """The images of the turner that undoes the one with some images, None if its length is above the most."""
-    letters = len(images)
-    sides = sides_of(images)
-    ways = sides_of(single_rows(letters))
+def images_leading(rows, goals, most=None):
+    """What the letters are led to if rows that make all are led to goals; None if some are longer than the most.
+
+    The goals can have other letters than the rows.
+    """
+    sides = sides_of(rows)
+    ways = sides_of(goals)
     numbers = list(sides)
     step = next_step(sides, ways, numbers)
     while step is not None:
         goal, piece = step
         put_behind(sides, goal, piece)
         put_behind(ways, goal, piece)
-        # A way is what the undoing turner leads the row to: from a length above the most it is told by this.
-        if len(ways[goal]) > most * len(sides[goal]):
+        # A way is what the row is led to: from a length above the most for each entry it is told by this.
+        if most is not None and len(ways[goal]) > most * len(sides[goal]):
             return None
         step = next_step(sides, ways, numbers)
-    undone = tuple([row_of(ways[number]) for letter in range(1, letters + 1) for number in numbers
-                    if sides[number] == SIGNS[letter]])
-    return undone if length_of(undone) <= most else None
+    return tuple([row_of(ways[number]) for letter in range(1, len(rows) + 1) for number in numbers
+                  if sides[number] == SIGNS[letter]])
+
+
+def images_undone(images, most):
+    """The images of the turner that undoes the one with some images, None if its length is above the most."""
+    undone = images_leading(images, single_rows(len(images)), most)
+    return undone if undone is not None and length_of(undone) <= most else None

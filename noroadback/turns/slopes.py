@@ -1,6 +1,6 @@
 """Sums of words, and the slopes of words, which are sums."""
 
-from noroadback.base.folding import folded, has_all
+from noroadback.base.folding import folded_web, has_all
 from noroadback.base.integers import is_passed, is_within
 from noroadback.base.lots import are_words
 from noroadback.base.rows import times
@@ -224,7 +224,7 @@ def undone_slopes(letters, words):
     check_tuple(letters, words)
     if len(words) != letters:
         raise InvalidOperation("not as many words as letters")
-    if not has_all(letters, folded(letters, words)):
+    if not has_all(letters, folded_web(letters, words)):
         return None
     undone = images_undone(words, MAX_MADE)
     if undone is None:

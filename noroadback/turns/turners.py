@@ -1,9 +1,10 @@
 """Turners: words in the place of letters, so that each word comes of just one word."""
 
-from noroadback.base.folding import folded, has_all
+from noroadback.base.folding import folded_web, has_all
 from noroadback.base.integers import is_passed, is_within
 from noroadback.base.sides import sides_of, single_rows, told_row
-from noroadback.base.words import MAX_LETTERS, MAX_WORD, check_letters, check_word, is_bare_row
+from noroadback.base.squares import square_product
+from noroadback.base.words import MAX_LETTERS, check_letters, check_word, is_bare_row
 from noroadback.errors import InvalidNumber, InvalidOperation, InvalidTable, InvalidTurner, TooMany
 from noroadback.turns.images import images_behind, images_to_power, images_undone, length_of
 from noroadback.turns.single import images_by, is_move
@@ -20,7 +21,7 @@ def are_images(value):
     letters = len(value)
     if not all([is_bare_row(letters, image, MAX_IMAGE) for image in value]):
         return False
-    return has_all(letters, folded(letters, value))
+    return has_all(letters, folded_web(letters, value))
 
 
 class Turner:
@@ -143,10 +144,7 @@ def table_product(one, other):
     check_table(other)
     if len(one) != len(other):
         raise InvalidOperation("tables of unlike sizes")
-    places = range(len(one))
-    return tuple([
-        tuple([sum([row[inner] * other[inner][column] for inner in places]) for column in places]) for row in one
-    ])
+    return square_product(one, other)
 
 
 def table_determinant(table):

@@ -1,0 +1,1 @@
+"""Webs of ties, stands on them, and changes of stands."""
