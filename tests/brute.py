@@ -255,7 +255,8 @@ def led(images, road):
 
 def put_together(images, road):
     """The images of the ties of a road, one behind the other."""
-    return sum((images[tie - 1] if tie > 0 else back(images[-tie - 1]) for tie in road), ())
+    sides = {sign * tie: image if sign > 0 else back(image) for tie, image in enumerate(images, start=1) for sign in (1, -1)}
+    return tuple(entry for tie in road for entry in sides[tie])
 
 
 def ring(word):

@@ -4,11 +4,13 @@ import inspect
 import unittest
 
 from noroadback.base import fractions, lots, rings, words
-from noroadback.errors import InvalidNumber, InvalidStand, InvalidTable, InvalidTurner, InvalidWeb, InvalidWord
+from noroadback.errors import InvalidNumber, InvalidOperation, InvalidStand, InvalidTable, InvalidTurner, InvalidWeb, InvalidWord
+from noroadback.rates import gates, tables
+from noroadback.search import search
 from noroadback.turns import alike, moves, slopes, turners, two
 from noroadback.turns.slopes import Sum
 from noroadback.turns.turners import Turner
-from noroadback.webs import stands, webs
+from noroadback.webs import changes, stands, webs
 from noroadback.webs.stands import Stand
 from noroadback.webs.webs import Web
 from wrong import STRANGE
@@ -16,7 +18,8 @@ from wrong import STRANGE
 GROW, ONE = Turner(((1, 2), (1,))), Sum.word(2, ())
 THETA = Web(((0, 1), (0, 1), (0, 1)))
 HALF = Stand(((0, 1), (0, 0), (1, 0)), ((1,), (2,), ()), ((1, 3), (1, 3), (2,)))
-MODULES = (words, fractions, rings, lots, turners, moves, slopes, alike, two, webs, stands)
+MODULES = (words, fractions, rings, lots, turners, moves, slopes, alike, two, webs, stands, changes, tables, gates, search)
+GOLD = ((1, 1), (1, 0))
 PARAMETERS = {
     words.is_word: "letters value", words.bare: "letters row", words.product: "letters *words",
     words.contrary: "letters word", words.power: "letters word many", words.root: "letters word",
@@ -46,6 +49,16 @@ PARAMETERS = {
     stands.stand_fault: "ties words images", stands.turner_of: "stand", stands.is_stand_of: "turner value",
     stands.rose_stand: "turner", stands.led: "stand road", stands.led_point: "stand point", stands.behind: "one other",
     stands.stand_power: "stand many", stands.road_of: "stand word", stands.word_of: "stand road",
+    changes.halved: "stand tie place", changes.folded: "stand one other", changes.shrunk: "stand ties",
+    changes.pulled: "stand point", changes.joined: "stand point tie",
+    tables.counts: "stand", tables.row_led: "table row", tables.weights_led: "table row", tables.hangs_together: "table",
+    tables.pieces_of: "table", tables.beat: "table", tables.table_power: "table many", tables.own_poly: "table",
+    tables.rate_paper: "table fraction", tables.is_rate_paper: "table fraction value", tables.compare_rates: "one other",
+    tables.rate_bounds: "table figures", tables.is_rate_bounds: "table figures value", tables.is_rate: "table fraction",
+    gates.first_of: "stand tie", gates.gates: "stand", gates.closed_turns: "stand", gates.turns_taken: "stand",
+    gates.is_open: "stand road", gates.back_paper: "stand", gates.is_back_paper: "stand value",
+    search.grown_set: "stand ties", search.kept_parts: "stand", search.search_paper: "turner",
+    search.is_search_paper: "turner value",
 }
 METHODS = {
     Turner: {
@@ -72,7 +85,8 @@ RIGHT = {
     "letters": 2, "value": (1, 2), "row": (1, -1, 2), "*words": (2, 2), "word": (1, 2, -1), "many": 3, "one": (1, 2),
     "other": (2, 1), "length": 3, "top": 4, "bottom": -6, "by": (2,), "words": ((1, 2), (2,)), "turner": GROW,
     "table": ((1, 2), (3, 4)), "moves": (("turn", 1), ("swap", 1, 2)), "letter": 2, "web": THETA, "stand": HALF,
-    "ties": (1, 3), "road": (1, -3), "point": 1, "first": 3, "second": -2,
+    "ties": (1, 3), "road": (1, -3), "point": 1, "first": 3, "second": -2, "tie": 1, "place": 1, "fraction": (3, 2),
+    "figures": 3,
 }
 OWN = {
     lots.are_one_lot: (2, ((1,),), ((1, 1),)), turners.table_product: (((1, 2), (3, 4)), ((0, 1), (1, 1))),
@@ -81,15 +95,23 @@ OWN = {
     webs.road_between: (THETA, 0, 1), webs.reading: (THETA, ((1,), (2,), ()), (1, -2)),
     stands.stand_fault: (HALF.web.ties, HALF.words, HALF.images), stands.led: (HALF, (1, 3)), stands.behind: (HALF, HALF),
     stands.word_of: (HALF, (1, 3)),
+    changes.folded: (HALF, 1, 2), changes.shrunk: (HALF, ()), changes.joined: (HALF, 1, 3),
+    changes.pulled: (Stand(((0, 0), (0, 1)), ((1,), ()), ((1,), (1, 2))), 1),
+    tables.row_led: (GOLD, (1, 2)), tables.weights_led: (GOLD, (1, 2)), tables.rate_paper: (GOLD, (3, 2)),
+    tables.compare_rates: (GOLD, ((2,),)), gates.is_open: (HALF, (1, 3)),
 }
 JUDGES = [(words.is_word, (2,)), (words.is_common_root, (2, (1,), (1,))), (fractions.is_fraction, ()),
           (rings.is_ring, (2,)), (rings.is_between, (2, (1,), (1,))), (lots.is_all_paper, (2, ((1,), (2,)))),
           (lots.is_way, (2, ((1,),), (1,))), (moves.is_moves_of, (GROW,)), (slopes.is_undone_slopes, (2, ((1,), (2,)))),
           (alike.is_alike_word, (GROW, GROW)), (two.is_base_letter, ()), (two.is_two_kind, (GROW,)),
-          (two.is_two_alike, (GROW, GROW)), (webs.is_naming, (THETA,)), (stands.is_stand_of, (GROW,))]
+          (two.is_two_alike, (GROW, GROW)), (webs.is_naming, (THETA,)), (stands.is_stand_of, (GROW,)),
+          (tables.is_rate_paper, (GOLD, (3, 2))), (tables.is_rate_bounds, (GOLD, 3)), (gates.is_back_paper, (HALF,)),
+          (search.is_search_paper, (GROW,))]
 WRONG_AHEAD = {
     moves.is_moves_of: (InvalidTurner,), alike.is_alike_word: (InvalidTurner,) * 2, two.is_two_kind: (InvalidTurner,),
     two.is_two_alike: (InvalidTurner,) * 2, webs.is_naming: (InvalidWeb,), stands.is_stand_of: (InvalidTurner,),
+    tables.is_rate_paper: (InvalidTable, InvalidOperation), tables.is_rate_bounds: (InvalidTable, InvalidNumber),
+    gates.is_back_paper: (InvalidStand,), search.is_search_paper: (InvalidTurner,),
 }
 
 
@@ -122,7 +144,7 @@ class Interface(unittest.TestCase):
             self.assertEqual((value.letters, value.length), (2, sum(map(len, value.images))))
         for value in (ONE, ONE + ONE, ONE - ONE, ONE * ONE, ONE.led(GROW), slopes.slope(2, (1,), 1)):
             self.assertEqual((value.letters, type(value.terms)), (2, dict))
-        for value in (HALF, stands.rose_stand(GROW), stands.behind(HALF, HALF), stands.stand_power(HALF, 3)):
+        for value in (HALF, changes.halved(HALF, 2, 1), changes.folded(HALF, 1, 2), search.search_paper(GROW)[1], stands.rose_stand(GROW), stands.behind(HALF, HALF), stands.stand_power(HALF, 3)):
             self.assertEqual((type(value.web), value.letters, value.size), (Web, 2, len(value.images)))
             self.assertEqual((value.web.rank, len(value.words), value.length), (2, value.size, sum(map(len, value.images))))
 
@@ -157,6 +179,10 @@ class Calls(unittest.TestCase):
             webs.least_tree(THETA), webs.base_rounds(THETA), webs.road_between(THETA, 0, 1), webs.pieces(THETA, (1, 2)),
             webs.tight_round(THETA, (1, -2)), webs.base_naming(THETA), webs.reading(THETA, ((1,), (2,), ()), (1, -2)),
             HALF.words, HALF.images, stands.led(HALF, (1, 3)), stands.behind(HALF, HALF).images, stands.road_of(HALF, (1,)),
+            changes.halved(HALF, 2, 1).images, changes.folded(HALF, 1, 2).words, tables.counts(HALF), tables.row_led(GOLD, (1, 2)),
+            tables.pieces_of(GOLD), tables.table_power(GOLD, 2), tables.own_poly(GOLD), tables.rate_paper(GOLD, (2, 1)),
+            tables.rate_bounds(GOLD, 2), gates.gates(HALF), gates.closed_turns(HALF), gates.turns_taken(HALF), gates.back_paper(HALF),
+            search.grown_set(HALF, (1,)), search.kept_parts(HALF), search.kept_parts(stands.rose_stand(Turner.idle(2))),
             stands.word_of(HALF, (1, 3)), stands.rose_stand(GROW).words, stands.stand_fault(HALF.web.ties, HALF.words, ((1, 3),) * 3),
         ]
         for one in found:

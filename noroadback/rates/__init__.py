@@ -1,0 +1,1 @@
+"""Tables of counts, their rates, and gates."""
