@@ -132,6 +132,14 @@ class AlikeTurners(WrongInputs):
             word = brute.raised(rng.choice(images), rng.randint(-6, 6))
             self.assertEqual(alike_word(Turner(images), Turner(turned_images(images, word))), word)
 
+    def test_images_with_long_common_beginnings(self):
+        rng = drawn.dice(12)
+        for images in [((2, 1, 2, 1, 2, 2, 1, 2), (-2, -1, -2, -2, -1)), ((1, 1, -2, 1, 1, -2, 1, -2), (1, 1, -2, 1, 1, -2, -1))]:
+            for many in range(-5, 6):
+                for word in [(), (2, 1), drawn.word(rng, 2, 5)]:
+                    by = brute.times(word, brute.raised(images[0], many))
+                    self.assertEqual(alike_word(Turner(images), Turner(turned_images(images, by))), by)
+
     def test_a_third_turner(self):
         rng = drawn.dice(7)
         for number in range(20):

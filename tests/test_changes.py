@@ -5,9 +5,11 @@ import unittest
 import brute
 import drawn
 from noroadback.errors import InvalidNumber, InvalidOperation, InvalidStand, Refused, TooMany
+from noroadback.rates.tables import compare_rates, counts
 from noroadback.turns.turners import Turner
 from noroadback.webs.changes import folded, halved, joined, pulled, shrunk
 from noroadback.webs.stands import Stand, is_stand_of, rose_stand, turner_of
+from noroadback.webs.webs import is_forest
 from wrong import STAND, TIES, WrongInputs, directed_but, integers_but
 
 GROW = Turner(((1, 2), (1,)))
@@ -357,6 +359,52 @@ class Joined(WrongInputs):
         alone = rose_stand(Turner.idle(1))
         self.assert_raises_with(InvalidOperation, None, None, joined, alone, 0, 1)
         self.assert_raises_with(InvalidStand, None, None, joined, GROW, 0, 1)
+
+
+class Rates(unittest.TestCase):
+    """Promise [10.6]."""
+
+    def sign(self, one, other):
+        """How the rate of one stand stands to that of another one."""
+        return compare_rates(counts(one), counts(other))
+
+    def test_halved_and_folded_stands(self):
+        shorter = 0
+        for rng, stand in drawn_stands(8, 200):
+            tie = rng.randint(1, stand.size)
+            if len(stand.images[tie - 1]) > 1:
+                self.assertEqual(self.sign(halved(stand, tie, 1), stand), 0)
+            ready = foldable(rng, stand)
+            if ready is None:
+                continue
+            ready, one, other = ready
+            try:
+                found = folded(ready, one, other)
+            except Refused:
+                continue
+            kept, gone = sorted((one, other), key=abs)
+            lengths = [len(image) for tie, image in enumerate(ready.images, start=1) if tie != abs(gone)]
+            if [len(image) for image in found.images] == lengths:
+                self.assertEqual(self.sign(found, stand), 0)
+            else:
+                self.assertLessEqual(self.sign(found, stand), 0)
+                shorter += 1
+        self.assertGreater(shorter, 10)
+
+    def test_shrunk_and_pulled_stands(self):
+        done = 0
+        for rng, stand in drawn_stands(9, 150):
+            for point in stand.web.loose_points():
+                try:
+                    self.assertLessEqual(self.sign(pulled(stand, point), stand), 0)
+                    done += 1
+                except Refused:
+                    pass
+        self.assertGreater(done, 20)
+        for rng, stand in Shrunk().stands(10, 40):
+            tree = tuple(tie for tie in range(1, stand.size + 1) if stand.images[tie - 1] == (tie,))
+            if is_forest(stand.web, tree):
+                self.assertLessEqual(self.sign(shrunk(stand, tree), stand), 0)
 
 
 class Steps(unittest.TestCase):

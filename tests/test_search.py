@@ -178,6 +178,18 @@ class Papers(WrongInputs):
                 if second[0] == "never":
                     self.assertEqual(compare_rates(counts(paper[1]), counts(second[1])), 0)
 
+    def test_no_stand_of_the_turner_has_a_lesser_rate(self):
+        rng = drawn.dice(8)
+        done = 0
+        for number in range(120):
+            pairs, words, images, goals = drawn.parts(rng, 2 + number % 2, 3)
+            if brute.length(goals) <= 40:
+                paper = search_paper(Turner(goals))
+                if paper[0] == "never":
+                    self.assertLessEqual(compare_rates(counts(paper[1]), counts(Stand(pairs, words, images))), 0)
+                    done += 1
+        self.assertGreater(done, 30)
+
     def test_words_in_which_all_letters_are_led(self):
         rng = drawn.dice(6)
         for _ in range(20):

@@ -342,6 +342,27 @@ class Comparing(WrongInputs):
         self.assertEqual(compare_rates(((long, 1, 0), (0, long, 1), (1, 0, long)), ((long, 1), (0, long))), 1)
         self.assertEqual(compare_rates(((long, long), (long, long)), ((long, long), (long, long - 1))), 1)
 
+    def test_pieces_powers_and_sums_of_rows(self):
+        for rng, table in tables(14, 80):
+            sums = [sum(row) for row in table]
+            self.assertLessEqual(compare_rates(table, ((max(sums),),)), 0)
+            self.assertGreaterEqual(compare_rates(table, ((min(sums),),)), 0)
+            parts = [tuple(tuple(table[one][other] for other in piece) for one in piece) for piece in pieces_of(table)]
+            self.assertEqual(max(compare_rates(part, table) for part in parts), 0)
+            other = draw_table(rng, len(table), max(sums), 0.5)
+            if max(map(max, table)) <= 9:
+                # A power of both leaves them in their sequence.
+                self.assertEqual(compare_rates(table_power(table, 3), table_power(other, 3)), compare_rates(table, other))
+            if is_rate(table, (2, 1)):
+                self.assertIs(is_rate(table_power(table, 5), (32, 1)), True)
+            some_power = table_power(table, len(table))
+            self.assertIs(is_rate(table, (0, 1)), not any(map(any, some_power)))
+            if not is_rate(table, (0, 1)):
+                self.assertGreaterEqual(compare_rates(table, ((1,),)), 0)
+            if does_hang(table):
+                single = all(sorted(row) == [0] * (len(row) - 1) + [1] for row in table)
+                self.assertIs(is_rate(table, (1, 1)), single)
+
     def test_rates_0_and_1(self):
         nothing = ((0, 1, 5), (0, 0, 2), (0, 0, 0))
         for table in (((0,),), nothing, ((0,) * 24,) * 24):

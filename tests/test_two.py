@@ -279,6 +279,14 @@ class Quotients(unittest.TestCase):
     def test_told_rounds(self):
         self.assertEqual(quotient_round(GROW.power(20)), (1,))
         self.assertEqual(quotient_round(Turner(((1, 1, 1, 2), (1,)))), (3,))
+        # Rounds that are not equal when they are told from behind, also where the root of the greater size is below 0.
+        for row in [(1, 2, 3), (1, 3, 2), (1, 1, 2, 3), (1, 1, 3, 2)]:
+            table = ((1, 0), (0, 1))
+            for many in row:
+                table = times(((many, 1), (1, 0)), table)
+            opposite = tuple(tuple(-entry for entry in line) for line in table)
+            for told in (table, opposite):
+                self.assertEqual([quotient_round(of_table(told)), self.told_round(told)], [row, row])
         # Directions 1 + 1 / (3 + 1 / (1 + ..)), the quotients 1 and 3 by turns, told by a product of tables of one quotient each.
         self.assertEqual(quotient_round(of_table(times(((1, 1), (1, 0)), ((3, 1), (1, 0))))), (1, 3))
         self.assertEqual(quotient_round(of_table(times(((2, 1), (1, 0)), times(((1, 1), (1, 0)), ((5, 1), (1, 0)))))), (1, 2, 5))

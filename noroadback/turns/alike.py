@@ -64,7 +64,6 @@ def table_order(table):
 
 def power_to_order(turner):
     """The pair of the order of the table of a turner and of the images of this power, None if there is no order."""
-    check_turner(turner)
     many = order_of(table_of(turner))
     if many is None:
         return None

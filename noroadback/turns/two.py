@@ -13,8 +13,6 @@ from noroadback.turns.turners import Turner, check_turner, signs_in, table_of, t
 
 MAX_ENTRY = 60
 MOST_IN_ALL = 40
-# The tables that lead the letters 1 and 2 to themselves or to their contraries, by the signs at equal indices.
-SIGN_PAIRS = ((1, 1), (1, -1), (-1, 1), (-1, -1))
 
 
 def check_two(*turners):
@@ -75,10 +73,11 @@ def steps_to_letters(rows):
 
 def images_of_table(table):
     """Images of a turner with a table of two rows with the determinant 1 or -1, as long as its integers tell."""
-    one, two = [pair for pair in SIGN_PAIRS if all([row[0] * pair[0] * row[1] * pair[1] >= 0 for row in table])][0]
+    # With the determinant 1 or -1, both rows have integers of one sign, or both do when the second column is opposite.
+    second = 2 if all([row[0] * row[1] >= 0 for row in table]) else -2
     rows = [(abs(row[0]), abs(row[1])) for row in table]
     steps = steps_to_letters(rows)
-    images = [(one,) if row == (1, 0) else (2 * two,) for row in rows]
+    images = [(1,) if row == (1, 0) else (second,) for row in rows]
     for goal, piece in steps[::-1]:
         images[goal] = images[goal] + images[piece]
     return tuple([image if sums_of(image) == row else opposite(image) for image, row in zip(images, table)])

@@ -48,7 +48,8 @@ def web_told(ties, words, images):
 def point_fault(ties, images):
     """The least tie whose image does not go with those of lesser ties, or with itself, None if there is none."""
     goals = {}
-    for tie, ((begin, end), image) in enumerate(zip(ties, images), start=1):
+    for tie, image in enumerate(images, start=1):
+        begin, end = ties[tie - 1]
         first, last = begin_of(ties, image[0]), end_of(ties, image[-1])
         if goals.setdefault(begin, first) != first or goals.setdefault(end, last) != last:
             return tie

@@ -1,0 +1,159 @@
+"""Promises [0.25], [6.5], [7.7], [8.4], [9.6], [10.7], [11.7], [12.8] and [13.5]: statements that are not true."""
+
+import unittest
+
+import brute
+import drawn
+from noroadback.errors import InvalidOperation, Refused
+from noroadback.rates.gates import back_paper, closed_turns, gates, turns_taken
+from noroadback.rates.tables import compare_rates, counts, hangs_together, is_rate_paper, own_poly, pieces_of, table_power
+from noroadback.search.search import is_search_paper, kept_parts, search_paper
+from noroadback.turns.alike import alike_word, exact_order, table_order, turned_by, turner_order
+from noroadback.turns.turners import Turner, table_of
+from noroadback.turns.two import of_table, two_alike, two_kind
+from noroadback.webs.changes import folded, halved, joined
+from noroadback.webs.stands import Stand, behind, is_stand_of, led, rose_stand, stand_power
+from noroadback.webs.webs import Web, base_naming, reading, tight_round
+
+GROW, THREE, PLAIN = Turner(((1, 2), (1,))), Turner(((2,), (3,), (1, 2))), Turner(((1,), (2, 1)))
+SWAP, SIX = Turner(((2,), (1,))), Turner(((1, 2), (-1,)))
+STAYS, BENT = Turner(((1,), (2,), (1, 2, -1, -2, 3))), turned_by(2, (1, 1)) * Turner(((2,), (-2, -1)))
+ROSE, LATE = rose_stand(GROW), rose_stand(SIX)
+HALF = Stand(((0, 1), (0, 0), (1, 0)), ((1,), (2,), ()), ((1, 3), (1, 3), (2,)))
+
+
+class Turners(unittest.TestCase):
+    def test_a_turner_and_the_one_that_undoes_it_have_equal_rates(self):
+        one, other = search_paper(THREE), search_paper(THREE.undone())
+        self.assertEqual([one[0], other[0], compare_rates(counts(one[1]), counts(other[1]))], ["never", "never", -1])
+
+    def test_turners_with_equal_tables_are_alike(self):
+        self.assertEqual([table_of(STAYS), alike_word(STAYS, Turner.idle(3))], [table_of(Turner.idle(3)), None])
+
+    def test_a_turner_whose_table_has_an_order_has_one(self):
+        self.assertEqual([table_order(table_of(STAYS)), turner_order(STAYS), exact_order(STAYS)], [1, None, None])
+
+    def test_a_turner_with_an_order_up_to_a_word_has_an_idle_power(self):
+        self.assertEqual([turner_order(BENT)[0], exact_order(BENT)], [3, None])
+
+    def test_the_order_of_a_product_is_a_divisor_of_the_product_of_orders(self):
+        one = Turner(((-1,), (2, 1)))
+        self.assertEqual([turner_order(one)[0], turner_order(SWAP)[0], turner_order(one * SWAP)[0]], [2, 2, 6])
+
+    def test_a_ring_that_a_power_leads_to_itself_is_so_by_the_turner(self):
+        word = (1, 2, -1, -2)
+        self.assertNotEqual(brute.ring(GROW(word)), brute.ring(word))
+        self.assertEqual(brute.ring(GROW.power(2)(word)), brute.ring(word))
+
+    def test_turners_with_equal_numbers_are_led_to_one_another(self):
+        one, other = of_table(((1, 4), (1, 5))), of_table(((1, 2), (2, 5)))
+        self.assertEqual([two_kind(one), two_alike(one, other)], [two_kind(other), None])
+
+    def test_a_kept_ring_is_led_to_itself(self):
+        turner = Turner(((-1,), (-2, 1)))
+        name, word = two_kind(turner)
+        self.assertEqual([name, brute.ring(turner(word))], ["kept", brute.ring(brute.back(word))])
+
+
+class Webs(unittest.TestCase):
+    def test_a_tight_road_that_is_a_round_is_a_tight_round(self):
+        rose = Web(((0, 0), (0, 0)))
+        self.assertEqual([rose.tight((1, 2, -1)), tight_round(rose, (1, 2, -1))], [(1, 2, -1), (2,)])
+
+    def test_webs_with_equally_many_ties_and_points_have_equally_many_ends(self):
+        self.assertEqual([Web(((0, 1), (0, 0))).loose_points(), Web(((0, 1), (0, 1))).loose_points()], [(1,), ()])
+
+    def test_the_reading_of_a_tight_road_is_longer_than_those_of_its_parts(self):
+        rose = Web(((0, 0), (0, 0)))
+        words = ((1, 2), (-2,))
+        self.assertEqual([reading(rose, words, (1, 2)), reading(rose, words, (1,)), base_naming(rose)], [(1,), (1, 2), ((1,), (2,))])
+
+
+class Stands(unittest.TestCase):
+    def test_stands_of_one_turner_have_equal_counts(self):
+        one = joined(HALF, 1, 1)
+        self.assertEqual([is_stand_of(GROW, one), counts(one) == counts(ROSE)], [True, False])
+
+    def test_a_tie_between_unlike_points_is_led_to_such_a_road(self):
+        image = led(HALF, (1,))
+        self.assertEqual([HALF.web.ties[0], HALF.web.begin(image[0]), HALF.web.end(image[-1])], [(0, 1), 0, 0])
+
+    def test_of_two_stands_with_one_web_one_behind_the_other_is_a_stand(self):
+        with self.assertRaises(InvalidOperation):
+            behind(HALF, Stand(HALF.web.ties, ((-1,), (2,), ()), HALF.images))
+        stand = Stand(((0, 1), (0, 2), (1, 2)), ((), (), (1,)), ((-1, 2), (-1, 2), (-2, 1, 3)))
+        with self.assertRaises(Refused):
+            behind(stand, stand)
+
+    def test_joining_never_raises_the_rate(self):
+        rng = drawn.dice(1)
+        signs = set()
+        for number in range(400):
+            stand = Stand(*drawn.parts(rng, 2, 4)[:3])
+            for point in brute.points(stand.web.ties):
+                there = [abs(tie) for tie in brute.beginnings(stand.web.ties, point)]
+                if len(there) == 2 and there[0] != there[1]:
+                    for tie in there:
+                        try:
+                            signs.add(compare_rates(counts(joined(stand, point, tie)), counts(stand)))
+                        except Refused:
+                            pass
+        self.assertEqual(signs, {-1, 0, 1})
+
+    def test_both_ways_of_joining_lead_to_equal_counts(self):
+        self.assertEqual([counts(joined(HALF, 1, 3)), counts(joined(HALF, 1, 1))], [((1, 1), (1, 0)), ((0, 1), (1, 1))])
+
+    def test_a_halved_stand_that_is_folded_has_as_many_ties(self):
+        # Here two ties are halved ahead of the fold, and one in HALF.
+        rose = rose_stand(Turner(((1, 2), (1, 2, 2))))
+        twice = halved(halved(rose, 1, 1), 2, 2)
+        self.assertEqual([rose.size, folded(twice, 1, 2).size, ROSE.size, folded(HALF, 1, 2).size], [2, 3, 2, 2])
+
+
+class Tables(unittest.TestCase):
+    def test_some_power_of_a_table_that_hangs_together_is_above_0(self):
+        turned = ((0, 1), (1, 0))
+        self.assertIs(hangs_together(turned), True)
+        self.assertTrue(all(min(map(min, table_power(turned, many))) == 0 for many in range(20)))
+
+    def test_with_the_rate_1_some_power_is_the_table_again(self):
+        table = ((1, 1), (0, 1))
+        self.assertEqual(compare_rates(table, ((1,),)), 0)
+        self.assertTrue(all(table_power(table, many) != table for many in range(2, 20)))
+
+    def test_tables_with_one_own_polynomial_have_equal_pieces(self):
+        one, other = ((1, 0), (0, 1)), ((1, 1), (0, 1))
+        self.assertEqual(own_poly(one), own_poly(other))
+        four, two = ((0, 4), (1, 0)), ((0, 1), (4, 0))
+        self.assertEqual([own_poly(four) == own_poly(two), four == two], [True, False])
+        wide, apart = ((1, 1, 1), (1, 1, 1), (1, 1, 1)), ((3, 0, 0), (0, 0, 1), (0, 0, 0))
+        self.assertEqual([own_poly(wide) == own_poly(apart), pieces_of(wide), pieces_of(apart)], [True, ((0, 1, 2),), ((0,), (1,), (2,))])
+
+    def test_papers_for_tables_that_do_not_hang_together(self):
+        with self.assertRaises(Refused):
+            is_rate_paper(((1, 0), (1, 1)), (1, 1), ("below", (1, 1)))
+
+
+class Searches(unittest.TestCase):
+    def test_images_that_are_tight_twice_are_so_for_ever(self):
+        self.assertTrue(all(brute.is_bare(image) for image in stand_power(LATE, 2).images))
+        self.assertEqual(back_paper(LATE), ("back", 4, 1))
+
+    def test_there_are_at_most_two_gates_at_a_point(self):
+        self.assertEqual([back_paper(ROSE)[0], len(gates(ROSE)[0])], ["never", 3])
+
+    def test_all_open_turns_are_taken(self):
+        self.assertNotIn((-2, -1), closed_turns(ROSE) + turns_taken(ROSE))
+
+    def test_there_is_just_one_sort_for_each_turner(self):
+        turned = Stand(((0, 0), (0, 0)), ((1, 2), (2,)), ((1,), (-2, 1)))
+        self.assertIs(is_search_paper(SWAP, ("never", rose_stand(SWAP))), True)
+        self.assertIs(is_search_paper(SWAP, ("kept", turned, (1,))), True)
+
+    def test_the_rate_of_the_rose_is_the_least_one(self):
+        stand = search_paper(SIX)[1]
+        self.assertEqual([compare_rates(counts(stand), ((1,),)), compare_rates(counts(LATE), ((1,),))], [0, 1])
+
+    def test_a_stand_that_never_turns_back_has_counts_that_hang_together(self):
+        rose = rose_stand(PLAIN)
+        self.assertEqual([back_paper(rose)[0], hangs_together(counts(rose)), kept_parts(rose)], ["never", False, ((1,),)])
