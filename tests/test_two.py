@@ -354,6 +354,22 @@ class LedToOneAnother(WrongInputs):
         self.assertEqual({len(found) for found in forms.values()}, {1})
         self.assertEqual(len({form for found in forms.values() for form in found}), len(forms))
 
+    def test_forms_of_tables_led_far(self):
+        rng = drawn.dice(9)
+        steps = [((1, 1), (0, 1)), ((1, 0), (1, 1)), ((0, 1), (1, 0)), ((1, -1), (0, 1)), ((-1, 0), (0, 1))]
+        for table in [((0, 1), (-1, -1)), ((0, 1), (-1, 0)), ((0, 1), (-1, 1)), ((1, 0), (0, -1)), ((0, 1), (1, 0)), ((1, 3), (0, 1)),
+                      ((-1, 0), (5, -1)), ((10, 3), (7, 2)), ((-10, -3), (-7, -2)), ((2, 1), (1, 1))]:
+            told = form_of(table)[0]
+            for _ in range(40):
+                led = table
+                for _ in range(rng.randint(1, 25)):
+                    step = rng.choice(steps)
+                    (a, b), (c, d) = step
+                    sign = a * d - b * c
+                    led = times(times(((sign * d, -sign * b), (-sign * c, sign * a)), led), step)
+                form, by = form_of(led)
+                self.assertEqual((form, times(by, led), abs(numbers_of(by)[1])), (told, times(form, by), 1))
+
     def test_even_entries(self):
         swap = Turner(((2,), (1,)))
         self.assertIsNone(two_alike(MIRROR, swap))
