@@ -93,6 +93,7 @@ class Roots(unittest.TestCase):
             (golden, golden, 0), (golden, product(golden, (0, 1)), 0), (product(golden, golden), product(golden, (0, 1), (1, 1)), 0),
             (golden, (-2, 1), -1), (product(golden, (-1, 1)), product((-1, 1), (-2, 1)), -1), (product(golden, (-2, 1)), product(golden, (-1, 1)), 1),
             (with_roots(2, 1), with_roots(2, 0), 0), (with_roots(2, 2, 1), with_roots(2, -1, 0, 0), 0), (with_roots(3, 2), with_roots(2, 2), 1),
-            ((0, 1), (0, 0, 1), 0), ((0, 1), (-1, 1), -1),
+            ((0, 1), (0, 0, 1), 0), ((0, 1), (-1, 1), -1), (golden, product(golden, (-3, 0, 1)), -1),
+            (product(golden, (-3, 0, 1)), product(golden, (-3, 0, 1), (0, 1)), 0), (product(golden, (-3, 0, 1)), product(golden, (-1, 1)), 1),
         ]:
             self.assertEqual([compare_greatest(one, other, 5), compare_greatest(other, one, 5)], [told, -told])

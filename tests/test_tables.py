@@ -253,6 +253,21 @@ class Papers(WrongInputs):
             done += 1
         self.assertGreater(done, 30)
 
+    def test_drawn_papers_are_judged(self):
+        found = {True: 0, False: 0}
+        for rng, table in tables(15, 200, 4):
+            if not does_hang(table) or max(map(max, table)) > 9:
+                continue
+            for _ in range(6):
+                row = tuple(rng.randint(1, 4) for _ in table)
+                fraction = rng.choice([(1, 1), (2, 1), (3, 2), (5, 3), (4, 1), (7, 2), (9, 1)])
+                sums = [Fraction(sum(many * entry for many, entry in zip(line, row)), entry) for line, entry in zip(table, row)]
+                low, high = min(sums), max(sums)
+                for sort, told in [("below", high <= Fraction(*fraction)), ("above", low >= Fraction(*fraction))]:
+                    self.assertIs(is_rate_paper(table, fraction, (sort, row)), told)
+                    found[told] += 1
+        self.assertTrue(min(found.values()) > 50)
+
     def test_both_sorts_exactly_at_the_rate(self):
         table = ((1, 2), (3, 2))
         self.assert_paper(table, (4, 1), rate_paper(table, (4, 1)))

@@ -228,7 +228,6 @@ def base_words(ties):
 
 def reading(web, words, road):
     """The product of the words, of a naming, of the ties of a road."""
-    check_web(web)
     if not is_naming(web, words):
         raise InvalidOperation("no naming of the web")
     check_road(web, road)
