@@ -197,6 +197,23 @@ class Powers(WrongInputs):
                 self.assertEqual(table_power(table, many), power)
                 power = times(power, table)
 
+    def test_far_powers(self):
+        for rng, table in tables(16, 24):
+            many = rng.randint(50, 1000)
+            squares, power = table, unit(len(table))
+            for place in range(many.bit_length()):
+                if many >> place & 1:
+                    power = times(power, squares)
+                squares = times(squares, squares) if 2 << place <= many else squares
+            self.assertEqual(table_power(table, many), power)
+        for size in (1, 3, 24):
+            nothing = tuple(tuple(int(other == one + 1) for other in range(size)) for one in range(size))
+            self.assertEqual([table_power(nothing, size), table_power(nothing, 999), table_power(nothing, 0)],
+                             [((0,) * size,) * size] * 2 + [unit(size)])
+            self.assertEqual(table_power(nothing, size - 1)[0][size - 1], 1)
+        turned = tuple(tuple(int(other == (one + 1) % 24) for other in range(24)) for one in range(24))
+        self.assertEqual([table_power(turned, 1), table_power(turned, 961), table_power(turned, 960)], [turned, turned, unit(24)])
+
     def test_power_0_and_1000(self):
         self.assertEqual([table_power(((0,),), 0), table_power(((2,),), 1000), table_power(TURNED, 999)], [((1,),), ((2 ** 1000,),), TURNED])
         one, other = 0, 1

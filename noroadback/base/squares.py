@@ -14,15 +14,3 @@ def row_behind(row, table):
 def square_product(one, other):
     """The product of two tables of one size."""
     return tuple([row_behind(row, other) for row in one])
-
-
-def square_power(table, many):
-    """The power of a table, for a number from 0 on."""
-    power = unit(len(table))
-    bits = [many >> place & 1 for place in range(many.bit_length())]
-    # The greatest bit comes first, so that the factors beside the squares are the table itself, with short numbers.
-    for bit in bits[::-1]:
-        power = square_product(power, power)
-        if bit == 1:
-            power = square_product(power, table)
-    return power

@@ -4,8 +4,9 @@ from math import gcd
 
 from noroadback.base.fractions import is_fraction, is_passed_fraction
 from noroadback.base.integers import integer_power, is_integer, is_passed, is_within
-from noroadback.base.squares import row_behind, square_power, square_product
+from noroadback.base.squares import row_behind, square_product
 from noroadback.errors import InvalidNumber, InvalidOperation, InvalidTable, Refused
+from noroadback.rates.powers import power_by
 from noroadback.rates.roots import FIRST_BITS, compare_greatest, compare_root, root_above
 from noroadback.webs.stands import check_stand
 
@@ -148,7 +149,7 @@ def table_power(table, many):
     check_count_table(table)
     if not is_within(many, 0, MAX_RAISED):
         raise InvalidNumber(many)
-    return square_power(table, many)
+    return power_by(table, poly_of(table), many)
 
 
 def poly_of(table):
