@@ -1,8 +1,8 @@
 """Far powers of tables. Nothing is checked here.
 
-A table that is put in the place of z makes its own polynomial 0. So the power k of the table is what the remainder makes
-that is left when z to the power k is divided by the polynomial. The remainder has few long integers, where squares of
-far powers would be products of many.
+A table that is put in the place of z makes its own polynomial 0. So the power k of the table is what the
+remainder makes that is left when z to the power k is divided by the polynomial. The remainder has few long
+integers, where squares of far powers would be products of many.
 """
 
 from noroadback.base.squares import square_product, unit
