@@ -79,7 +79,7 @@ def pieces_in(ties, chosen):
 
 def least_tree_of(ties):
     """The list of the ties of the least tree."""
-    return tree_of(ties, range(1, len(ties) + 1))
+    return tree_of(ties, list(range(1, len(ties) + 1)))
 
 
 def roads_from(ties, chosen, start):

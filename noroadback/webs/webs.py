@@ -24,7 +24,7 @@ def are_ties(value):
     if not all([is_within(point, 0, len(value)) for pair in value for point in pair]):
         return False
     points = points_in(value)
-    return points == list(range(len(points))) and len(pieces_in(value, range(1, len(value) + 1))) == 1
+    return points == list(range(len(points))) and len(pieces_in(value, list(range(1, len(value) + 1)))) == 1
 
 
 class Web:
