@@ -4,9 +4,9 @@ import inspect
 import unittest
 
 from noroadback.base import fractions, lots, rings, words
-from noroadback.errors import InvalidNumber, InvalidOperation, InvalidStand, InvalidTable, InvalidTurner, InvalidWeb, InvalidWord
+from noroadback.errors import InvalidNumber, InvalidOperation, InvalidRoad, InvalidStand, InvalidTable, InvalidTurner, InvalidWeb, InvalidWord
 from noroadback.rates import gates, tables
-from noroadback.search import search
+from noroadback.search import fates, lost, rows, search, staying
 from noroadback.turns import alike, moves, slopes, turners, two
 from noroadback.turns.slopes import Sum
 from noroadback.turns.turners import Turner
@@ -18,7 +18,8 @@ from wrong import STRANGE
 GROW, ONE = Turner(((1, 2), (1,))), Sum.word(2, ())
 THETA = Web(((0, 1), (0, 1), (0, 1)))
 HALF = Stand(((0, 1), (0, 0), (1, 0)), ((1,), (2,), ()), ((1, 3), (1, 3), (2,)))
-MODULES = (words, fractions, rings, lots, turners, moves, slopes, alike, two, webs, stands, changes, tables, gates, search)
+MODULES = (words, fractions, rings, lots, turners, moves, slopes, alike, two, webs, stands, changes, tables, gates, search,
+           lost, fates, rows, staying)
 GOLD = ((1, 1), (1, 0))
 PARAMETERS = {
     words.is_word: "letters value", words.bare: "letters row", words.product: "letters *words",
@@ -59,6 +60,13 @@ PARAMETERS = {
     gates.is_open: "stand road", gates.back_paper: "stand", gates.is_back_paper: "stand value",
     search.grown_set: "stand ties", search.kept_parts: "stand", search.search_paper: "turner",
     search.is_search_paper: "turner value",
+    lost.lost_bound: "stand", lost.common_of: "stand one other", lost.most_lost: "stand", lost.is_most_lost: "stand value",
+    fates.ring_led: "stand road many", fates.fate: "stand road", fates.is_fate: "stand road value",
+    fates.lengths: "stand road many",
+    rows.rows_in: "stand tie length", rows.row_numbers: "stand tie most", rows.next_ties: "stand tie road",
+    rows.tie_at: "stand tie power place",
+    staying.staying_words: "turner length", staying.staying_base: "turner length", staying.staying_rings: "turner length",
+    staying.staying_roads: "stand length",
 }
 METHODS = {
     Turner: {
@@ -86,7 +94,7 @@ RIGHT = {
     "other": (2, 1), "length": 3, "top": 4, "bottom": -6, "by": (2,), "words": ((1, 2), (2,)), "turner": GROW,
     "table": ((1, 2), (3, 4)), "moves": (("turn", 1), ("swap", 1, 2)), "letter": 2, "web": THETA, "stand": HALF,
     "ties": (1, 3), "road": (1, -3), "point": 1, "first": 3, "second": -2, "tie": 1, "place": 1, "fraction": (3, 2),
-    "figures": 3,
+    "figures": 3, "most": 3, "power": 3,
 }
 OWN = {
     lots.are_one_lot: (2, ((1,),), ((1, 1),)), turners.table_product: (((1, 2), (3, 4)), ((0, 1), (1, 1))),
@@ -99,6 +107,8 @@ OWN = {
     changes.pulled: (Stand(((0, 0), (0, 1)), ((1,), ()), ((1,), (1, 2))), 1),
     tables.row_led: (GOLD, (1, 2)), tables.weights_led: (GOLD, (1, 2)), tables.rate_paper: (GOLD, (3, 2)),
     tables.compare_rates: (GOLD, ((2,),)), gates.is_open: (HALF, (1, 3)),
+    lost.common_of: (HALF, (1,), (2,)), fates.ring_led: (HALF, (1, 3), 3), fates.fate: (HALF, (1, 3)),
+    fates.is_fate: (HALF, (1, 3), None), fates.lengths: (HALF, (1, 3), 3), rows.next_ties: (HALF, 1, (1, 3)),
 }
 JUDGES = [(words.is_word, (2,)), (words.is_common_root, (2, (1,), (1,))), (fractions.is_fraction, ()),
           (rings.is_ring, (2,)), (rings.is_between, (2, (1,), (1,))), (lots.is_all_paper, (2, ((1,), (2,)))),
@@ -106,12 +116,13 @@ JUDGES = [(words.is_word, (2,)), (words.is_common_root, (2, (1,), (1,))), (fract
           (alike.is_alike_word, (GROW, GROW)), (two.is_base_letter, ()), (two.is_two_kind, (GROW,)),
           (two.is_two_alike, (GROW, GROW)), (webs.is_naming, (THETA,)), (stands.is_stand_of, (GROW,)),
           (tables.is_rate_paper, (GOLD, (3, 2))), (tables.is_rate_bounds, (GOLD, 3)), (gates.is_back_paper, (HALF,)),
-          (search.is_search_paper, (GROW,))]
+          (search.is_search_paper, (GROW,)), (lost.is_most_lost, (HALF,)), (fates.is_fate, (HALF, (1, 3)))]
 WRONG_AHEAD = {
     moves.is_moves_of: (InvalidTurner,), alike.is_alike_word: (InvalidTurner,) * 2, two.is_two_kind: (InvalidTurner,),
     two.is_two_alike: (InvalidTurner,) * 2, webs.is_naming: (InvalidWeb,), stands.is_stand_of: (InvalidTurner,),
     tables.is_rate_paper: (InvalidTable, InvalidOperation), tables.is_rate_bounds: (InvalidTable, InvalidNumber),
-    gates.is_back_paper: (InvalidStand,), search.is_search_paper: (InvalidTurner,),
+    gates.is_back_paper: (InvalidStand,), search.is_search_paper: (InvalidTurner,), lost.is_most_lost: (InvalidStand,),
+    fates.is_fate: (InvalidStand, InvalidRoad),
 }
 
 
@@ -183,6 +194,9 @@ class Calls(unittest.TestCase):
             tables.pieces_of(GOLD), tables.table_power(GOLD, 2), tables.own_poly(GOLD), tables.rate_paper(GOLD, (2, 1)),
             tables.rate_bounds(GOLD, 2), gates.gates(HALF), gates.closed_turns(HALF), gates.turns_taken(HALF), gates.back_paper(HALF),
             search.grown_set(HALF, (1,)), search.kept_parts(HALF), search.kept_parts(stands.rose_stand(Turner.idle(2))),
+            lost.most_lost(HALF), fates.ring_led(HALF, (1, 3), 2), fates.fate(HALF, (1, 3)), fates.lengths(HALF, (1,), 2),
+            rows.rows_in(HALF, 1, 2), rows.row_numbers(HALF, 1, 2), rows.next_ties(HALF, 1, (1,)), staying.staying_words(Turner.idle(2), 2),
+            staying.staying_base(Turner.idle(2), 2), staying.staying_rings(GROW * GROW, 4), staying.staying_roads(HALF, 3),
             stands.word_of(HALF, (1, 3)), stands.rose_stand(GROW).words, stands.stand_fault(HALF.web.ties, HALF.words, ((1, 3),) * 3),
         ]
         for one in found:

@@ -1,13 +1,17 @@
-"""Promises [0.25], [6.5], [7.7], [8.4], [9.6], [10.7], [11.7], [12.8] and [13.5]: statements that are not true."""
+"""Statements that are not true: promises [0.25], [6.5], [7.7], [8.4], [9.6], [10.7], [11.7], [12.8], [13.5] and behind."""
 
 import unittest
 
 import brute
 import drawn
 from noroadback.errors import InvalidOperation, Refused
-from noroadback.rates.gates import back_paper, closed_turns, gates, turns_taken
+from noroadback.rates.gates import back_paper, closed_turns, gates, is_open, turns_taken
 from noroadback.rates.tables import compare_rates, counts, hangs_together, is_rate_paper, own_poly, pieces_of, table_power
+from noroadback.search.fates import fate, ring_led
+from noroadback.search.lost import common_of, lost_bound, most_lost
+from noroadback.search.rows import next_ties, row_numbers, rows_in
 from noroadback.search.search import is_search_paper, kept_parts, search_paper
+from noroadback.search.staying import staying_base, staying_rings, staying_words
 from noroadback.turns.alike import alike_word, exact_order, table_order, turned_by, turner_order
 from noroadback.turns.turners import Turner, table_of
 from noroadback.turns.two import of_table, two_alike, two_kind
@@ -157,3 +161,52 @@ class Searches(unittest.TestCase):
     def test_a_stand_that_never_turns_back_has_counts_that_hang_together(self):
         rose = rose_stand(PLAIN)
         self.assertEqual([back_paper(rose)[0], hangs_together(counts(rose)), kept_parts(rose)], ["never", False, ((1,),)])
+
+    def test_a_stand_whose_images_are_tight_never_turns_back(self):
+        self.assertEqual([all(brute.is_bare(image) for image in LATE.images), back_paper(LATE)[0]], [True, "back"])
+
+
+class Far(unittest.TestCase):
+    def test_the_bound_is_lost_for_some_two_roads(self):
+        both = rose_stand(Turner(((2, 1, 2), (2,))))
+        roads = [word for word in brute.words_to(2, 5) if word]
+        most = max(common_of(both, one, other) for one in roads for other in roads if one[0] != other[0])
+        self.assertEqual([lost_bound(both), most_lost(both)[0], most], [2, 1, 1])
+
+    def test_roads_that_lose_something_begin_with_ties_to_one_point(self):
+        self.assertEqual([common_of(HALF, (1,), (2,)), HALF.web.end(1), HALF.web.end(2)], [2, 1, 0])
+
+    def test_the_power_2_loses_twice_what_the_stand_loses(self):
+        self.assertEqual([most_lost(ROSE)[0], most_lost(stand_power(ROSE, 2))[0]], [1, 3])
+
+    def test_open_rounds_that_come_round_have_one_tie(self):
+        swap = rose_stand(SWAP)
+        self.assertEqual([is_open(swap, (1, 2, 1, 2)), fate(swap, (1, 2))], [True, ("round", 1)])
+
+    def test_a_round_that_a_power_leads_to_its_ring_is_led_to_it_by_the_first(self):
+        self.assertEqual(fate(ROSE, (1, 2, -1, -2)), ("round", 2))
+
+    def test_each_ring_that_grows_is_longer_than_the_one_ahead(self):
+        self.assertEqual([fate(ROSE, (2,))[0], [len(ring_led(ROSE, (2,), many)) for many in range(5)]], ["grows", [1, 1, 2, 3, 5]])
+
+    def test_a_ring_that_grows_grows_as_powers_of_a_rate_do(self):
+        rose = rose_stand(PLAIN)
+        self.assertEqual([len(ring_led(rose, (2,), many)) for many in range(13)], list(range(1, 14)))
+
+    def test_the_rows_of_two_ties_are_the_same(self):
+        rose = rose_stand(PLAIN)
+        self.assertEqual([rows_in(rose, 1, 1), rows_in(rose, 2, 1), row_numbers(rose, 1, 3)], [((1,),), ((1,), (2,)), (1, 0, 0)])
+
+    def test_each_open_road_is_a_row(self):
+        self.assertEqual([is_open(ROSE, (2, 2)), (2, 2) in rows_in(ROSE, 1, 2), next_ties(ROSE, 1, (2,))], [True, False, (1,)])
+
+    def test_there_are_at_most_so_many_rows(self):
+        self.assertGreater(row_numbers(rose_stand(Turner(((1, 2), (1, 3), (1,)))), 1, 2)[1], 3)
+
+    def test_a_ring_that_stays_is_that_of_a_word_that_stays(self):
+        turner = turned_by(2, (1,))
+        self.assertIn((2,), staying_rings(turner, 1))
+        self.assertNotIn((2,), [brute.ring(word) for word in staying_words(turner, 6)])
+
+    def test_only_the_idle_turner_has_so_many_words_in_a_base_of_those_that_stay(self):
+        self.assertEqual([len(staying_base(PLAIN, 3)), PLAIN == Turner.idle(2)], [2, False])

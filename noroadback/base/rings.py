@@ -74,17 +74,20 @@ def longer_necklaces(letters, begun):
     return longer
 
 
+def rings_with(letters, length):
+    """The ascending list of all rings of a length."""
+    begun = [((), 1)]
+    for _ in range(length):
+        begun = longer_necklaces(letters, begun)
+    return [row for row, period in begun if length % period == 0 and (row == () or row[0] != -row[-1])]
+
+
 def rings_of(letters, length):
     """All rings of a length, ascending."""
     check_letters(letters)
     if not is_within(length, 0, MOST_LISTED):
         raise InvalidNumber(length)
-    begun = [((), 1)]
-    for _ in range(length):
-        begun = longer_necklaces(letters, begun)
-    for row, period in begun:
-        if length % period == 0 and (row == () or row[0] != -row[-1]):
-            yield row
+    yield from rings_with(letters, length)
 
 
 def coprime_number(most):

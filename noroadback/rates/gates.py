@@ -2,6 +2,7 @@
 
 from noroadback.base.integers import is_integer
 from noroadback.base.rows import is_reduced
+from noroadback.errors import Refused
 from noroadback.rates.firsts import back_powers, far_firsts, firsts_of, gates_in, turns_in, turns_led_on
 from noroadback.webs.stands import check_stand
 from noroadback.webs.webs import check_directed, check_road
@@ -50,6 +51,12 @@ def back_paper(stand):
         return ("never", gates_in(stand.web.ties, stand.images))
     least = min(list(powers.values()))
     return ("back", least, min([tie for tie in powers if powers[tie] == least]))
+
+
+def check_never_back(stand):
+    """Refuse a stand that turns back."""
+    if back_powers(stand.images) != {}:
+        raise Refused(("back",))
 
 
 def is_back_paper(stand, value):

@@ -42,15 +42,17 @@ def check_together(table):
         raise Refused(("apart",))
 
 
+def counted(road, size):
+    """How often each of so many ties stands in a road, along or back."""
+    row = [0] * size
+    for tie in road:
+        row[abs(tie) - 1] += 1
+    return tuple(row)
+
+
 def counts_in(images):
     """The table that tells how often each tie stands in each image, along or back."""
-    rows = []
-    for image in images:
-        row = [0] * len(images)
-        for tie in image:
-            row[abs(tie) - 1] += 1
-        rows.append(tuple(row))
-    return tuple(rows)
+    return tuple([counted(image, len(images)) for image in images])
 
 
 def counts(stand):
