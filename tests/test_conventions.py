@@ -4,9 +4,13 @@ import inspect
 import unittest
 
 from noroadback.base import fractions, lots, rings, words
-from noroadback.errors import InvalidNumber, InvalidOperation, InvalidRoad, InvalidStand, InvalidTable, InvalidTurner, InvalidWeb, InvalidWord
+from noroadback.desk import desk
+from noroadback.desk.desk import Desk
+from noroadback.errors import InvalidNumber, InvalidOperation, InvalidOrder, InvalidRoad, InvalidStand, InvalidTable, InvalidTurner, InvalidWeb, InvalidWord
 from noroadback.rates import gates, tables
-from noroadback.search import fates, lost, rows, search, staying
+from noroadback.rims import rims
+from noroadback.search import fates, lost, rows, search, stairs, staying
+from noroadback.text import texts
 from noroadback.turns import alike, moves, slopes, turners, two
 from noroadback.turns.slopes import Sum
 from noroadback.turns.turners import Turner
@@ -18,8 +22,9 @@ from wrong import STRANGE
 GROW, ONE = Turner(((1, 2), (1,))), Sum.word(2, ())
 THETA = Web(((0, 1), (0, 1), (0, 1)))
 HALF = Stand(((0, 1), (0, 0), (1, 0)), ((1,), (2,), ()), ((1, 3), (1, 3), (2,)))
+PARTED = Stand(((0, 0), (1, 1), (0, 1), (0, 0)), ((1,), (2,), (), (3,)), ((2,), (1,), (-3,), (-3, 4, 3)))
 MODULES = (words, fractions, rings, lots, turners, moves, slopes, alike, two, webs, stands, changes, tables, gates, search,
-           lost, fates, rows, staying)
+           lost, fates, rows, staying, stairs, rims, desk, texts)
 GOLD = ((1, 1), (1, 0))
 PARAMETERS = {
     words.is_word: "letters value", words.bare: "letters row", words.product: "letters *words",
@@ -67,6 +72,12 @@ PARAMETERS = {
     rows.tie_at: "stand tie power place",
     staying.staying_words: "turner length", staying.staying_base: "turner length", staying.staying_rings: "turner length",
     staying.staying_roads: "stand length",
+    stairs.piece_turner: "stand ties point", stairs.shrunk_turner: "stand ties", stairs.stair_paper: "turner",
+    stairs.is_stair_paper: "turner value",
+    rims.is_order: "letters value", rims.rims: "letters order", rims.handle_number: "letters order", rims.twist: "letters order letter",
+    rims.twisted: "letters order row", rims.rims_paper: "letters order turner", rims.is_rims_paper: "letters order turner value",
+    texts.write_word: "letters word", texts.read_word: "letters text", texts.write_turner: "turner", texts.write_web: "web",
+    texts.write_stand: "stand", texts.read_turner: "text", texts.read_web: "text", texts.read_stand: "text", texts.read: "text",
 }
 METHODS = {
     Turner: {
@@ -84,17 +95,22 @@ METHODS = {
         "__iter__": "self", "__str__": "self",
     },
     Stand: {"__init__": "self ties words images", "__eq__": "self other", "__str__": "self"},
+    Desk: {
+        "__init__": "self letters", "do": "self *deeds", "say": "self saying", "unsay": "self saying", "is_true": "self value",
+        "undo": "self steps=1", "twin": "self", "__contains__": "self name", "__getitem__": "self name", "__len__": "self",
+        "__iter__": "self", "__eq__": "self other", "__str__": "self",
+    },
 }
 PROPERTIES = {
     Turner: ("letters", "images", "length"), Sum: ("letters", "terms"), Web: ("ties", "points", "size", "rank"),
-    Stand: ("web", "letters", "words", "images", "size", "length"),
+    Stand: ("web", "letters", "words", "images", "size", "length"), Desk: ("letters", "kept", "sayings", "past"),
 }
 RIGHT = {
     "letters": 2, "value": (1, 2), "row": (1, -1, 2), "*words": (2, 2), "word": (1, 2, -1), "many": 3, "one": (1, 2),
     "other": (2, 1), "length": 3, "top": 4, "bottom": -6, "by": (2,), "words": ((1, 2), (2,)), "turner": GROW,
     "table": ((1, 2), (3, 4)), "moves": (("turn", 1), ("swap", 1, 2)), "letter": 2, "web": THETA, "stand": HALF,
     "ties": (1, 3), "road": (1, -3), "point": 1, "first": 3, "second": -2, "tie": 1, "place": 1, "fraction": (3, 2),
-    "figures": 3, "most": 3, "power": 3,
+    "figures": 3, "most": 3, "power": 3, "order": (1, 2, -1, -2), "text": "web 0>0",
 }
 OWN = {
     lots.are_one_lot: (2, ((1,),), ((1, 1),)), turners.table_product: (((1, 2), (3, 4)), ((0, 1), (1, 1))),
@@ -109,6 +125,8 @@ OWN = {
     tables.compare_rates: (GOLD, ((2,),)), gates.is_open: (HALF, (1, 3)),
     lost.common_of: (HALF, (1,), (2,)), fates.ring_led: (HALF, (1, 3), 3), fates.fate: (HALF, (1, 3)),
     fates.is_fate: (HALF, (1, 3), None), fates.lengths: (HALF, (1, 3), 3), rows.next_ties: (HALF, 1, (1, 3)),
+    stairs.piece_turner: (PARTED, (1, 2), 1), stairs.shrunk_turner: (PARTED, (1, 2)), rims.twisted: (2, (1, 2, -1, -2), ((1, 2), (2, -1))),
+    texts.read_word: (2, "aB"), texts.read_turner: ("turner ab a",), texts.read_stand: ("stand 0>0:a:1",), texts.read: ("turner a",),
 }
 JUDGES = [(words.is_word, (2,)), (words.is_common_root, (2, (1,), (1,))), (fractions.is_fraction, ()),
           (rings.is_ring, (2,)), (rings.is_between, (2, (1,), (1,))), (lots.is_all_paper, (2, ((1,), (2,)))),
@@ -116,13 +134,15 @@ JUDGES = [(words.is_word, (2,)), (words.is_common_root, (2, (1,), (1,))), (fract
           (alike.is_alike_word, (GROW, GROW)), (two.is_base_letter, ()), (two.is_two_kind, (GROW,)),
           (two.is_two_alike, (GROW, GROW)), (webs.is_naming, (THETA,)), (stands.is_stand_of, (GROW,)),
           (tables.is_rate_paper, (GOLD, (3, 2))), (tables.is_rate_bounds, (GOLD, 3)), (gates.is_back_paper, (HALF,)),
-          (search.is_search_paper, (GROW,)), (lost.is_most_lost, (HALF,)), (fates.is_fate, (HALF, (1, 3)))]
+          (search.is_search_paper, (GROW,)), (lost.is_most_lost, (HALF,)), (fates.is_fate, (HALF, (1, 3))),
+          (stairs.is_stair_paper, (GROW,)), (rims.is_order, (2,)), (rims.is_rims_paper, (2, (1, 2, -1, -2), GROW))]
 WRONG_AHEAD = {
     moves.is_moves_of: (InvalidTurner,), alike.is_alike_word: (InvalidTurner,) * 2, two.is_two_kind: (InvalidTurner,),
     two.is_two_alike: (InvalidTurner,) * 2, webs.is_naming: (InvalidWeb,), stands.is_stand_of: (InvalidTurner,),
     tables.is_rate_paper: (InvalidTable, InvalidOperation), tables.is_rate_bounds: (InvalidTable, InvalidNumber),
     gates.is_back_paper: (InvalidStand,), search.is_search_paper: (InvalidTurner,), lost.is_most_lost: (InvalidStand,),
-    fates.is_fate: (InvalidStand, InvalidRoad),
+    fates.is_fate: (InvalidStand, InvalidRoad), stairs.is_stair_paper: (InvalidTurner,),
+    rims.is_rims_paper: (InvalidNumber, InvalidOrder, InvalidTurner),
 }
 
 
@@ -145,7 +165,7 @@ class Interface(unittest.TestCase):
                 self.assertIn(name, vars(place))
                 found = [str(parameter) for parameter in inspect.signature(getattr(place, name)).parameters.values()]
                 self.assertEqual(found, told.split())
-            self.assertEqual(place.__module__, {Turner: turners, Sum: slopes, Web: webs, Stand: stands}[place].__name__)
+            self.assertEqual(place.__module__, {Turner: turners, Sum: slopes, Web: webs, Stand: stands, Desk: desk}[place].__name__)
 
     def test_properties_are_there_from_the_start(self):
         for place, names in PROPERTIES.items():
@@ -163,6 +183,26 @@ class Interface(unittest.TestCase):
         for call in (words.words_of, rings.rings_of):
             self.assertTrue(inspect.isgenerator(call(2, 2)))
             self.assertTrue(inspect.isgenerator(call(None, None)))
+
+
+class Operands(unittest.TestCase):
+    def test_objects_that_cannot_be_iterated_over(self):
+        for value in (GROW, HALF):
+            for call in (iter, list, len, lambda one: 1 in one, lambda one: one[0]):
+                with self.assertRaises(TypeError):
+                    call(value)
+        for value in (THETA, ONE):
+            with self.assertRaises(TypeError):
+                value[0]
+
+    def test_operands_of_another_kind(self):
+        for value in [GROW, THETA, HALF, ONE, Desk(2)]:
+            for other in (3, None, "a", (1,), THETA):
+                for call in (lambda: value + other, lambda: value - other, lambda: value < other, lambda: value * other if other != 3 else value + 3):
+                    with self.assertRaises(TypeError):
+                        call()
+                self.assertIs(value == other, value is other)
+                self.assertIs(value != other, value is not other)
 
 
 class Calls(unittest.TestCase):
@@ -194,6 +234,9 @@ class Calls(unittest.TestCase):
             tables.pieces_of(GOLD), tables.table_power(GOLD, 2), tables.own_poly(GOLD), tables.rate_paper(GOLD, (2, 1)),
             tables.rate_bounds(GOLD, 2), gates.gates(HALF), gates.closed_turns(HALF), gates.turns_taken(HALF), gates.back_paper(HALF),
             search.grown_set(HALF, (1,)), search.kept_parts(HALF), search.kept_parts(stands.rose_stand(Turner.idle(2))),
+            stairs.piece_turner(PARTED, (1, 2), 0)[1].images, stairs.stair_paper(GROW), stairs.shrunk_turner(PARTED, (1, 2)).images,
+            rims.rims(2, (1, 2, -1, -2)), rims.rims_paper(2, (1, 2, -1, -2), GROW), rims.twist(2, (1, -1, 2, -2), 1).images, Desk(2).sayings,
+            texts.read_word(2, "aB"), texts.read("turner ab a").images, texts.read("web 0>0").ties, texts.read_stand("stand 0>0:a:1").images,
             lost.most_lost(HALF), fates.ring_led(HALF, (1, 3), 2), fates.fate(HALF, (1, 3)), fates.lengths(HALF, (1,), 2),
             rows.rows_in(HALF, 1, 2), rows.row_numbers(HALF, 1, 2), rows.next_ties(HALF, 1, (1,)), staying.staying_words(Turner.idle(2), 2),
             staying.staying_base(Turner.idle(2), 2), staying.staying_rings(GROW * GROW, 4), staying.staying_roads(HALF, 3),
@@ -222,7 +265,7 @@ class Calls(unittest.TestCase):
 
 class Judges(unittest.TestCase):
     def test_answers_are_true_or_false(self):
-        for call, ahead in JUDGES + [(THETA.is_road, ())]:
+        for call, ahead in JUDGES + [(THETA.is_road, ()), (Desk(2).is_true, ())]:
             for value in STRANGE + [0, 10 ** 5000, (10 ** 5000,), (1, 10 ** 5000), ("root", (), 10 ** 5000, 1)]:
                 self.assertIn(type(call(*ahead, value)), (bool,))
 

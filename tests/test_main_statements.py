@@ -5,13 +5,19 @@ import unittest
 import brute
 import drawn
 import never
+from noroadback.base.lots import all_paper, do_make_all, is_all_paper
+from noroadback.desk.desk import Desk
 from noroadback.rates.gates import back_paper
-from noroadback.rates.tables import compare_rates, counts, hangs_together, is_rate, rate_bounds, table_power
+from noroadback.rates.tables import (
+    compare_rates, counts, hangs_together, is_rate, is_rate_paper, rate_bounds, rate_paper, table_power, weights_led,
+)
 from noroadback.search.fates import fate, lengths, ring_led
 from noroadback.search.lost import lost_bound, most_lost
 from noroadback.search.search import is_search_paper, search_paper
+from noroadback.search.stairs import is_stair_paper, stair_paper
 from noroadback.search.staying import staying_rings
-from noroadback.turns.alike import alike_word, turned_by, turner_order
+from noroadback.text.texts import read, write_stand, write_turner
+from noroadback.turns.alike import alike_word, inner_word, table_order, turned_by, turner_order
 from noroadback.turns.turners import Turner, table_determinant, table_of
 from noroadback.turns.two import quotient_round, two_kind
 from noroadback.webs.stands import is_stand_of, road_of, rose_stand, turner_of, word_of
@@ -120,3 +126,84 @@ class TwoLetters(unittest.TestCase):
                 goal = ring_led(paper[1], road, 1) if len(road) <= 24 else None
                 if goal is not None:
                     self.assertEqual(goal, brute.ring(road if sign == 1 else brute.back(road)))
+
+
+class AllOrAPlace(unittest.TestCase):
+    def test_words_make_all_or_leave_a_point(self):
+        rng, found = drawn.dice(58), set()
+        for number in range(120):
+            letters = 1 + number % 4
+            words = drawn.words(rng, letters, 0, 6, 5) if number % 3 else drawn.images(rng, letters, 6, 9)
+            name, told = all_paper(letters, words)
+            found.add(name)
+            self.assertIs(is_all_paper(letters, words, (name, told)), True)
+            self.assertEqual(do_make_all(letters, words), name == "all")
+            if name == "all":
+                self.assertEqual([brute.told(words, way) for way in told], list(brute.idle(letters)))
+                # Under no moves of few points all words leave the point 0, but for those that do not hang together.
+                moves = tuple(tuple(rng.sample(range(3), 3)) for _ in range(letters))
+                self.assertIs(is_all_paper(letters, words, ("moves", moves)), False)
+            else:
+                self.assertTrue(all(self.led(told, word) == 0 for word in words))
+                self.assertTrue(any(row[0] != 0 for row in told))
+        self.assertEqual(found, {"all", "moves"})
+
+    def led(self, moves, word):
+        """Where a word leads the point 0."""
+        point = 0
+        for entry in word:
+            point = moves[entry - 1][point] if entry > 0 else moves[-entry - 1].index(point)
+        return point
+
+
+class ComingRound(unittest.TestCase):
+    def test_the_least_power_with_the_unit_table_tells(self):
+        rng, found = drawn.dice(59), set()
+        for number in range(150):
+            letters = 2 + number % 3
+            names = rng.sample(range(1, letters + 1), letters)
+            turner = Turner(tuple((rng.choice([1, -1]) * name,) for name in names))
+            by = Turner(drawn.images(rng, letters, 2, 5))
+            turner = by * turner * by.undone()
+            if number % 3 == 0:
+                turner = Turner(drawn.images(rng, letters, 2, 5))
+            many, order = table_order(table_of(turner)), turner_order(turner)
+            found.add((many is None, order is None))
+            for power in range(1, 13 if order else 5):
+                inner = inner_word(turner.power(power)) is not None
+                self.assertEqual(inner, order is not None and power % order[0] == 0)
+            self.assertTrue(order is None or order[0] == many)
+        self.assertTrue(found >= {(True, True), (False, False)})
+
+
+class Rates(unittest.TestCase):
+    def test_rows_tell_which_fractions_are_above_the_rate(self):
+        rng, done = drawn.dice(60), 0
+        for _ in range(200):
+            size = rng.randint(1, 4)
+            table = tuple(tuple(rng.choice([0, 0, 1, 1, 2]) for _ in range(size)) for _ in range(size))
+            if not hangs_together(table):
+                continue
+            done += 1
+            for fraction in [(1, 1), (3, 2), (2, 1), (3, 1), (17, 10)]:
+                sort, row = rate_paper(table, fraction)
+                pairs = [(fraction[1] * led, fraction[0] * entry) for led, entry in zip(weights_led(table, row), row)]
+                self.assertTrue(min(row) > 0 and all(one <= other if sort == "below" else one >= other for one, other in pairs))
+                both = [is_rate_paper(table, fraction, (word, row)) for word in ("below", "above")]
+                self.assertEqual(all(both), is_rate(table, fraction))
+        self.assertGreater(done, 50)
+
+
+class Together(unittest.TestCase):
+    def test_turners_by_names_with_their_stands_stairs_and_texts(self):
+        desk = Desk(3)
+        for number, turner in enumerate(drawn.turners(61, 12, 6, 3)):
+            name = "abcdefghijklmnop"[number]
+            desk.do(("put", name, turner), ("put", "by", turned_by(3, (1, -2))), ("behind", "like", "by", name))
+            desk.say(("alike", name, "like"))
+            self.assertEqual(read(write_turner(desk[name])), turner)
+            steps = stair_paper(desk[name])
+            self.assertIs(is_stair_paper(desk["like"], steps), True)
+            self.assertEqual(read(write_stand(rose_stand(turner))), rose_stand(turner))
+            desk.unsay(("alike", name, "like"))
+        self.assertEqual([len(desk), desk.past], [14, 36])

@@ -4,19 +4,23 @@ import unittest
 
 import brute
 import drawn
-from noroadback.errors import InvalidOperation, Refused
+from noroadback.desk.desk import Desk
+from noroadback.errors import InvalidOperation, InvalidTurner, Refused
 from noroadback.rates.gates import back_paper, closed_turns, gates, is_open, turns_taken
 from noroadback.rates.tables import compare_rates, counts, hangs_together, is_rate_paper, own_poly, pieces_of, table_power
+from noroadback.rims.rims import rims, rims_paper, twist
 from noroadback.search.fates import fate, ring_led
 from noroadback.search.lost import common_of, lost_bound, most_lost
 from noroadback.search.rows import next_ties, row_numbers, rows_in
 from noroadback.search.search import is_search_paper, kept_parts, search_paper
+from noroadback.search.stairs import is_stair_paper, piece_turner, stair_paper
 from noroadback.search.staying import staying_base, staying_rings, staying_words
+from noroadback.text.texts import read_turner
 from noroadback.turns.alike import alike_word, exact_order, table_order, turned_by, turner_order
 from noroadback.turns.turners import Turner, table_of
 from noroadback.turns.two import of_table, two_alike, two_kind
 from noroadback.webs.changes import folded, halved, joined
-from noroadback.webs.stands import Stand, behind, is_stand_of, led, rose_stand, stand_power
+from noroadback.webs.stands import Stand, behind, is_stand_of, led, rose_stand, stand_power, turner_of
 from noroadback.webs.webs import Web, base_naming, reading, tight_round
 
 GROW, THREE, PLAIN = Turner(((1, 2), (1,))), Turner(((2,), (3,), (1, 2))), Turner(((1,), (2, 1)))
@@ -210,3 +214,66 @@ class Far(unittest.TestCase):
 
     def test_only_the_idle_turner_has_so_many_words_in_a_base_of_those_that_stay(self):
         self.assertEqual([len(staying_base(PLAIN, 3)), PLAIN == Turner.idle(2)], [2, False])
+
+
+class Stairs(unittest.TestCase):
+    def test_the_greatest_rate_in_a_stair_is_the_rate_with_which_rings_grow(self):
+        lost = Turner(((1,), (3,), (2, 3, 1, -3)))
+        papers = [paper for _, _, paper in stair_paper(lost) if paper[0] == "never"]
+        self.assertEqual([compare_rates(counts(stand), ((1,),)) for _, stand in papers], [0] * len(papers))
+        ring, sizes = (2,), []
+        for _ in range(7):
+            sizes.append(len(ring))
+            ring = brute.ring(brute.told(lost.images, ring))
+        self.assertEqual(sizes, [1, 1, 4, 10, 23, 51, 112])
+
+    def test_all_stairs_of_a_turner_have_equally_many_steps(self):
+        turned = Stand(((0, 0), (0, 0)), ((1, 2), (2,)), ((1,), (-2, 1)))
+        one, other = Turner(((1,),)), Turner(((-1,),))
+        long = (((), SWAP, ("kept", turned, (1,))), ((0, "piece", 0), one, ("never", rose_stand(one))),
+                ((0, "rest"), other, ("never", rose_stand(other))))
+        short = (((), SWAP, ("never", rose_stand(SWAP))),)
+        self.assertEqual([is_stair_paper(SWAP, long), is_stair_paper(SWAP, short)], [True, True])
+
+    def test_the_turner_of_a_piece_is_the_turner_on_some_of_the_letters(self):
+        stand = Stand(((0, 0), (0, 0), (1, 1), (1, 1), (0, 1)), ((1,), (2,), (3,), (4,), ()), ((3,), (4,), (1, 2), (1,), (-5,)))
+        images = turner_of(stand).images
+        self.assertEqual(piece_turner(stand, (1, 2, 3, 4), 0), (2, GROW))
+        for letters in [(1, 2), (3, 4)]:
+            self.assertFalse(all(abs(entry) in letters for letter in letters for entry in images[letter - 1]))
+
+
+class Rims(unittest.TestCase):
+    def test_orders_with_equally_many_rims_are_led_to_one_another_by_renaming(self):
+        one, other = rims(3, (1, -1, 2, -2, 3, -3)), rims(3, (1, 2, -2, -1, 3, -3))
+        self.assertEqual([sorted(map(len, one)), sorted(map(len, other))], [[1, 1, 1, 3], [1, 1, 2, 2]])
+
+    def test_a_turner_that_leads_one_rim_to_itself_keeps_the_rims(self):
+        self.assertIn((-1,), rims(2, (1, -1, 2, -2)))
+        self.assertEqual([PLAIN((-1,)), rims_paper(2, (1, -1, 2, -2), PLAIN)[0]], [(-1,), "moved"])
+
+    def test_each_turner_that_keeps_the_rims_is_alike_to_a_product_of_twists(self):
+        disk, turner = (1, -1, 2, -2), Turner(((2,), (-2, 1, 2)))
+        self.assertEqual(rims_paper(2, disk, turner), ("kept", 1, (1, 0, 2)))
+        for letter in (1, 2, -1, -2):
+            self.assertIsNotNone(alike_word(twist(2, disk, letter), Turner.idle(2)))
+        self.assertIsNone(alike_word(turner, Turner.idle(2)))
+
+
+class Texts(unittest.TestCase):
+    def test_each_text_with_right_pieces_tells_something(self):
+        with self.assertRaises(InvalidTurner):
+            read_turner("turner aa b")
+
+    def test_deeds_that_undo_break_no_saying_about_an_order(self):
+        # They can, where the order is too hard to tell behind them.
+        desk = Desk(2)
+        desk.do(("put", "x", Turner(((2,), (-2, -1)))), ("put", "by", Turner(((1,) * 5 + (2,), (1,)))))
+        desk.say(("order", "x", 3))
+        reasons = []
+        for _ in range(6):
+            try:
+                desk.do(("led", "x", "by"))
+            except Refused as error:
+                reasons.append(error.reason[0])
+        self.assertTrue(reasons)

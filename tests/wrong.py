@@ -2,6 +2,7 @@
 
 import unittest
 
+from noroadback.desk.desk import Desk
 from noroadback.errors import InvalidNumber, InvalidOperation, InvalidRoad, InvalidStand, InvalidTurner, InvalidWeb, InvalidWord
 from noroadback.turns.slopes import Sum
 from noroadback.turns.turners import Turner
@@ -22,7 +23,7 @@ STRANGE = [
     None, True, False, "", "1", "abc", "\t\n", "x" * 4000, [], [1], {}, {1: 1}, {(1,): 2}, ((),), ((1,),), ([1],), (None,),
     (True,), (False,), ("1",), (0,), (HUGE,), (-HUGE,), nested(8), (nested(7), [nested(6)]), [[[[[[[[1]]]]]]]],
     {"a": {"b": {"c": (1, [2])}}}, InvalidWord("no word"), InvalidNumber(3), Turner(((1, 2), (1,))), Sum(2, {(1,): 1}),
-    Web(((0, 0), (0, 0), (0, 0))), Stand(((0, 0),) * 3, ((1,), (2,), (3,)), ((2,), (3,), (1,))),
+    Web(((0, 0), (0, 0), (0, 0))), Stand(((0, 0),) * 3, ((1,), (2,), (3,)), ((2,), (3,), (1,))), Desk(2),
 ]
 # From here on, with two letters.
 WRONG_WORDS = STRANGE + [

@@ -28,13 +28,23 @@ def kept_parts(stand):
     return tuple(kept_sets(stand.web.ties, stand.images))
 
 
-def search_paper(turner):
-    """A paper with a stand of a turner that never turns back, or with one that has a kept part."""
+def check_searched(turner):
+    """Raise the errors of what no search can be begun with."""
     check_turner(turner)
     if turner.letters > MAX_LETTERS:
         raise TooMany(MAX_LETTERS)
     if turner.length > MAX_IMAGES:
         raise TooMany(MAX_IMAGES)
+
+
+def search_paper(turner):
+    """A paper with a stand of a turner that never turns back, or with one that has a kept part."""
+    check_searched(turner)
+    return paper_of(turner)
+
+
+def paper_of(turner):
+    """A paper as of search_paper, for a turner with images of any lengths."""
     draft, kept = searched(draft_of(rose_stand(turner)))
     ties, words, images = draft
     stand = stand_made(ties, words, images)
@@ -49,7 +59,9 @@ def is_search_paper(turner, value):
     stand = value[1]
     if len(value) == 2:
         return value[0] == "never" and does_never_turn_back(stand) and is_stand_of(turner, stand)
-    return value[0] == "kept" and is_kept_part(stand, value[2]) and is_stand_of(turner, stand)
+    if value[0] != "kept" or stand.web.loose_points() != ():
+        return False
+    return is_kept_part(stand, value[2]) and is_stand_of(turner, stand)
 
 
 def does_never_turn_back(stand):
@@ -58,7 +70,7 @@ def does_never_turn_back(stand):
 
 
 def is_kept_part(stand, value):
-    """Whether a stand has no ends, and the value is an ascending tuple of ties that is a kept part of it."""
-    if stand.web.loose_points() != () or not are_ties_of(stand.web, value) or len(value) == stand.size:
+    """Whether the value is an ascending tuple of ties that is a kept part of a stand."""
+    if not are_ties_of(stand.web, value) or len(value) == stand.size:
         return False
     return is_kept_set(draft_of(stand), value) and not is_forest_in(stand.web.ties, value)

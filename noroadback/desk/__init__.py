@@ -1,0 +1,1 @@
+"""A desk of turners with names."""

@@ -1,0 +1,1 @@
+"""Rims of surfaces, and turners that keep them."""

@@ -1,0 +1,1 @@
+"""Texts of words, turners, webs and stands."""
