@@ -13,7 +13,7 @@ from noroadback.search.lost import lost_bound
 from noroadback.search.stretches import growing
 from noroadback.turns.turners import Turner
 from noroadback.webs.changes import halved
-from noroadback.webs.stands import Stand, rose_stand, stand_power
+from noroadback.webs.stands import Stand, rose_stand
 from wrong import ROAD, STAND, STRANGE, WrongInputs, integers_but
 
 ROSE = rose_stand(Turner(((1, 2), (1,))))
@@ -158,7 +158,7 @@ class Fates(WrongInputs):
             road = never.tight_round(rng, stand, 6)
             if fate(stand, road)[0] == "grows":
                 ring, sizes = brute.ring(road), []
-                while len(ring) < 2000 and len(sizes) < 40:
+                while len(ring) < 600 and len(sizes) < 40:
                     sizes.append(len(ring))
                     ring = led_on(stand, ring)
                 self.assertGreater(len(ring), 2 * min(sizes))

@@ -28,7 +28,7 @@ def met_behind(sides, meeting, tie):
     It is a tuple of the tie, of what is in common more, of the next meeting, None where the images part, and of whether
     the road that was behind is ahead now.
     """
-    ahead, done, behind = meeting
+    ahead, done, _ = meeting
     rest, side = sides[ahead][done:], sides[tie]
     common = common_begin(rest, side)
     if common == len(rest):

@@ -66,7 +66,7 @@ def piece_images(draft, piece, power):
 
 def rest_images(draft, chosen):
     """Images of the turner of what is left without a kept part, None if its rank is 0."""
-    ties, words, images = draft
+    ties = draft[0]
     labels = own_labels(ties)
     for piece in pieces_in(ties, chosen):
         points = points_in([ties[tie - 1] for tie in piece])
