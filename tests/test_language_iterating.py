@@ -33,7 +33,7 @@ def iterated(tree):
         if isinstance(node, ast.Call) and isinstance(node.func, ast.Attribute) and node.func.attr == "join":
             found += node.args
         if isinstance(node, ast.Compare) and isinstance(node.ops[0], (ast.In, ast.NotIn)):
-            found += node.comparators
+            found += [side for side in node.comparators if is_range(side) or (is_lazy(side) and getattr(side.func, "attr", "") == "keys")]
         # A range can be kept, in a plain local variable.
         if isinstance(node, ast.Assign) and isinstance(node.targets[0], ast.Name) and is_range(node.value):
             found.append(node.value)
@@ -78,8 +78,8 @@ class Iterating(unittest.TestCase):
     def test_the_test_sees_what_is_wrong(self):
         for row in ["tree_of(ties, range(3))", "x = f(zip(a, b))", "x.f(enumerate(a))", "f(x=reversed(a))", "f(d.items())", "f(d.keys())",
                     "def f(d):\n    return d.values()", "def f(n):\n    return range(n)", "x = zip(a, b)", "x = [range(3)]", "x = d.items(), 1",
-                    "len(zip(a, b))", "range(3) == x"]:
+                    "len(zip(a, b))", "range(3) == x", "1 in zip(a, b)", "1 in d.values()"]:
             self.assertEqual(len(left_over(ast.parse(row))), 1, row)
         for row in ["f(list(range(3)))", "for x in zip(a, b): pass", "[x for x in d.items()]", "sorted(d.keys())", "x = range(3)", "len(range(3))",
-                    "' '.join(d.values())", "x in range(3)", "list(enumerate(zip(a, b)))", "d.get(1)"]:
+                    "' '.join(d.values())", "x in range(3)", "x in d.keys()", "list(enumerate(zip(a, b)))", "d.get(1)"]:
             self.assertEqual(left_over(ast.parse(row)), [], row)
