@@ -1,6 +1,7 @@
 """Promises [20.4] and [20.5]: texts of words, turners, webs and stands, written and read."""
 
 import re
+from itertools import product
 
 import drawn
 from noroadback.errors import InvalidStand, InvalidTurner, InvalidWeb, InvalidWord, ParseError, Refused, TooMany
@@ -48,11 +49,9 @@ def wrong_place(text, heads):
 
 
 def word_place(letters, text):
-    """The index of the first character of a text of a word that cannot stand, None if all can."""
-    if text == "1":
-        return None
-    for index, sign in enumerate(text):
-        if abs(SIGNS.get(sign, 9)) > letters or (index > 0 and SIGNS[text[index - 1]] == -SIGNS[sign]):
+    """The index of the first character that cannot stand behind those ahead of it, None if all can."""
+    for index in range(len(text)):
+        if not is_word_text(text[:index + 1], letters):
             return index
     return len(text) if text == "" else None
 
@@ -102,15 +101,30 @@ class Words(WrongInputs):
         self.assertTrue(found >= {None, 0, 1, 2, 3, 4})
 
     def test_places(self):
-        for letters, text, spot in [(2, "", 0), (2, "aA", 1), (2, "abB", 2), (2, "abBA", 2), (2, "a1", 1), (2, "1a", 0), (2, "11", 0), (2, "c", 0), (1, "aab", 2),
+        for letters, text, spot in [(2, "", 0), (2, "aA", 1), (2, "abB", 2), (2, "abBA", 2), (2, "a1", 1), (2, "c", 0), (1, "aab", 2),
+                                    (2, "1a", 1), (2, "11", 1), (2, "1A", 1), (2, "1c", 1), (2, "1 ", 1), (2, "1\n", 1), (2, "1aA", 1), (2, "111", 1),
+                                    (2, " 1", 0), (2, "x1", 0), (2, "c1", 0), (2, "ab1", 2), (2, "ab1a", 2), (2, "aA1", 1), (2, "a11", 1), (1, "1b", 1),
                                     (2, " a", 0), (2, "a ", 1), (2, "a\t", 1), (2, "\n", 0), (5, "abcdef", 5), (5, "ABCDEF", 5), (2, "x", 0), (2, "-1", 0)]:
             self.assert_raises_with(ParseError, "spot", spot, read_word, letters, text)
         self.assertEqual([read_word(1, "1"), write_word(3, ()), read_word(5, "EDCBAe")], [(), "1", (-5, -4, -3, -2, -1, 5)])
+
+    def test_all_texts_of_up_to_4_characters(self):
+        for length in range(5):
+            for signs in product("1aAbBc ", repeat=length):
+                text = "".join(signs)
+                told = word_place(2, text)
+                if told is None:
+                    self.assertEqual(write_word(2, read_word(2, text)), text)
+                else:
+                    self.assert_raises_with(ParseError, "spot", told, read_word, 2, text)
 
     def test_texts_of_20000_characters_and_more(self):
         self.assertEqual(read_word(2, "a" * 20000), (1,) * 20000)
         self.assert_raises_with(ParseError, "spot", None, read_word, 2, "a" * 20001)
         self.assert_raises_with(ParseError, "spot", 19999, read_word, 2, "a" * 19999 + "A")
+        self.assert_raises_with(ParseError, "spot", 19999, read_word, 2, "a" * 19999 + "1")
+        self.assert_raises_with(ParseError, "spot", 1, read_word, 2, "1" * 20000)
+        self.assert_raises_with(ParseError, "spot", None, read_word, 2, "1" * 20001)
 
     def test_wrong_inputs(self):
         self.assert_refuses(write_word, (2, (1, -2)), [LETTERS, WORD])
@@ -168,6 +182,9 @@ class Things(WrongInputs):
         for reader, text, spot in [
             (read_turner, "turner", 6), (read_turner, "turner  ", 8), (read_turner, "", 0), (read_turner, "   ", 3), (read, "", 0), (read, "  ", 2),
             (read_turner, "Turner a", 0), (read_turner, " turnera", 1), (read_turner, "turner\ta", 0), (read_turner, "turner a\n", 7), (read, "\nturner a", 0),
+            (read_turner, "turner 1a", 7), (read_turner, "turner 11 b", 7), (read_turner, "turner a1", 7), (read_turner, "turner a 1 1a aA", 11),
+            (read, "turner 1a", 7), (read, " turner a  11", 11), (read, "stand 0>0:1a:1", 6), (read, "stand 0>0:a:1  0>0:a1:1", 15),
+            (read_stand, "stand 0>0:1a:1", 6), (read_stand, "stand 0>0:11:1", 6), (read_stand, "stand 0>0:a:1 0>0:1a:1", 14),
             (read_turner, "turner a f", 9), (read_turner, "turner a 1b", 9), (read_turner, "turner ab aA", 10), (read_turner, "turner x aA", 7),
             (read_web, "web 0>1 00>1", 8), (read_web, "web 0>100", 4), (read_web, "web 0>-1", 4), (read_web, "web 0>", 4), (read_web, "web 0", 4),
             (read_web, "web 0>1>2", 4), (read_web, "web 0>01", 4), (read_web, "web 0 > 1", 4), (read_web, "web -0>1", 4), (read_web, "web +1>0", 4),

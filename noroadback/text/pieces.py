@@ -12,17 +12,24 @@ def word_text(word):
     return "1" if word == () else text_of(word)
 
 
+def can_follow(letters, before, sign):
+    """Whether a sign can stand behind another one, or ahead of all if this one is empty, in the text of a word."""
+    # A text is read from its first character on: `1` can stand ahead, and what comes behind it cannot, whatever it is.
+    if before == "1":
+        return False
+    if sign == "1":
+        return before == ""
+    entry = ENTRIES.get(sign, 0)
+    return 1 <= abs(entry) <= letters and entry != -ENTRIES.get(before, 0)
+
+
 def first_wrong(letters, text):
     """The index of the first character that cannot stand where it stands in the text of a word, None if all can."""
-    if text == "1":
-        return None
-    last = 0
+    before = ""
     for index, sign in enumerate(text):
-        entry = ENTRIES.get(sign, 0)
-        # The texts of letters that are not there, and 1, which stands alone, are refused, too.
-        if not 1 <= abs(entry) <= letters or entry == -last:
+        if not can_follow(letters, before, sign):
             return index
-        last = entry
+        before = sign
     return len(text) if text == "" else None
 
 
